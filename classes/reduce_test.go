@@ -238,6 +238,42 @@ func TestReachedOrderOfClasses(t *testing.T) {
 	}
 }
 
+// Very many types that have one of three texts.
+func TestReachedOrderOfMany(t *testing.T) {
+	heads := []string{"m", "n", "o"}
+	var types []api.Type
+	for _, head := range heads {
+		types = append(types, variable(head))
+	}
+	for range 4 {
+		var more []api.Type
+		for _, of := range types {
+			for _, argument := range []api.Type{variable("x"), con("x"), con("Prim.x")} {
+				more = append(more, app(of, argument))
+			}
+		}
+		types = more
+	}
+	m := newMaker(808, "", "")
+	for range 10 {
+		m.Shuffle(len(types), func(i, j int) { types[i], types[j] = types[j], types[i] })
+		var preds, want []api.Pred
+		for i, of := range types {
+			preds = append(preds, api.Pred{Class: "C", Type: of}, api.Pred{Class: "C", Type: types[i/2]})
+		}
+		for _, head := range heads {
+			for _, of := range types {
+				if start, _ := headOf(of); start.Name == head {
+					want = append(want, api.Pred{Class: "C", Type: of})
+				}
+			}
+		}
+		if got := answered(nil, preds); got != sayExactly(want) {
+			t.Fatalf("got  %s\nwant %s", got, sayExactly(want))
+		}
+	}
+}
+
 // A TVar may be named like a TCon of Prim, whose text it then has not.
 func TestOddNames(t *testing.T) {
 	arrow := app(variable("Prim.->"), variable("b"), variable("a"))
