@@ -1,0 +1,151 @@
+package infer
+
+import (
+	"slices"
+
+	"teasel/api"
+)
+
+// group is declarations of one List whose types are inferred together, or a
+// DFun of a DInst.
+type group struct {
+	around   *group // nil at the top
+	level    int    // more by one than that of the group around it
+	types    []*term
+	patterns bool // whether it contains a DPat
+	required []pred
+	uses     []use
+	kept     []pred // those that its names have in their schemes
+}
+
+// use is a use of a local name, which requires the preds that its group keeps.
+type use struct {
+	of     *group
+	copier *copier
+}
+
+// solver infers the types of a group at the top, and of all that is within it.
+// First it infers types as if there were no preds, and then it looks at the
+// preds of each group when all types are known: in which order the parts of a
+// declaration are looked at must not matter.
+type solver struct {
+	program *program
+	lists   map[*api.Node]*list
+	known   map[string]*scheme // the names that are bound in the group
+	left    []func()           // what is left to do, the next at the end
+	made    []*term            // the variables that were made
+	copies  map[*term][]*term  // of the variables in schemes of local names: what stands for them at each use
+	bound   []*term            // the types of the names that declarations bind
+	closed  []*group           // those whose types are inferred, each behind what it uses
+	given   map[slot]struct{}  // the preds that a DInst gives
+	unknown *term              // what stands for ambiguous variables that no type tells
+
+	failed    bool // whether there is ErrType
+	lacking   bool // whether there is ErrInstance
+	ambiguous bool // whether there is ErrAmbiguous
+}
+
+func newSolver(p *program, lists map[*api.Node]*list) *solver {
+	return &solver{
+		program: p,
+		lists:   lists,
+		known:   map[string]*scheme{},
+		copies:  map[*term][]*term{},
+		given:   map[slot]struct{}{},
+		unknown: newVariable(atTop - 1),
+	}
+}
+
+// values adds the names of a group at the top to the program.
+func (s *solver) values(declarations ...*api.Node) api.Errno {
+	s.open(nil, declarations...)
+	if errno := s.solve(); errno != api.OK {
+		return errno
+	}
+	for _, name := range boundBy(declarations...) {
+		k := s.known[name]
+		s.program.known[name] = &scheme{of: k.of, level: atTop, preds: k.within.kept}
+	}
+	return api.OK
+}
+
+// later leaves something to do, ahead of all else that is left.
+func (s *solver) later(do func()) {
+	s.left = append(s.left, do)
+}
+
+// solve does all that is left to do, and answers the first error that applies.
+func (s *solver) solve() api.Errno {
+	for len(s.left) > 0 && !s.failed {
+		last := len(s.left) - 1
+		do := s.left[last]
+		s.left = s.left[:last]
+		do()
+	}
+	if s.failed || isEndless(s.made) {
+		return api.ErrType
+	}
+	for _, g := range s.closed {
+		s.settle(g)
+		if s.failed {
+			return api.ErrType
+		}
+	}
+	switch {
+	case slices.ContainsFunc(s.bound, (*term).isTooBig):
+		return api.ErrType
+	case s.lacking:
+		return api.ErrInstance
+	case s.ambiguous:
+		return api.ErrAmbiguous
+	}
+	return api.OK
+}
+
+// fresh is a new variable.
+func (s *solver) fresh(g *group) *term {
+	v := newVariable(g.level)
+	s.made = append(s.made, v)
+	return v
+}
+
+func (s *solver) unify(a, b *term) {
+	if !a.unify(b) {
+		s.failed = true
+	}
+}
+
+// bind gives a name a single type. The names of declarations have one before
+// their patterns are looked at.
+func (s *solver) bind(name string, t *term) {
+	if k := s.known[name]; k != nil {
+		s.unify(k.of, t)
+		return
+	}
+	s.known[name] = &scheme{of: t, level: single}
+}
+
+// use is the type of a name where it is used in a group, which then requires
+// the preds of its scheme.
+func (s *solver) use(g *group, name string) *term {
+	k := s.known[name]
+	if k == nil {
+		k = s.program.known[name]
+	}
+	c := &copier{from: k.level, to: g.level, made: map[*term]*term{}}
+	c.other = func(v *term) *term {
+		n := s.fresh(g)
+		if k.within != nil {
+			s.copies[v] = append(s.copies[v], n)
+		}
+		return n
+	}
+	t := c.copy(k.of)
+	for _, p := range k.preds {
+		g.required = append(g.required, pred{class: p.class, of: c.copy(p.of)})
+	}
+	if k.within != nil && len(c.made) > 0 {
+		g.uses = append(g.uses, use{of: k.within, copier: c})
+	}
+	return t
+}
