@@ -9,6 +9,7 @@ type copier struct {
 	to    int                 // the level of all that is made
 	made  map[*term]*term     // what was made for each variable
 	other func(v *term) *term // makes it
+	nodes int                 // how many nodes were made beside
 }
 
 // hole is a place at which the copy of a term is missing.
@@ -38,6 +39,7 @@ func (c *copier) copy(t *term) *term {
 		default:
 			n := &term{kind: api.TApp, level: c.to}
 			known[of] = n
+			c.nodes++
 			*last.into = n
 			left = append(left, hole{of: of.parts[1], into: &n.parts[1]}, hole{of: of.parts[0], into: &n.parts[0]})
 		}

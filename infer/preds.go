@@ -51,6 +51,20 @@ func (s *solver) reduce(p pred, tell func(pred)) {
 	}
 }
 
+// mostNodes is how many nodes, of 64 bytes each, copies of preds may have. What
+// uses the one before it several times, for other types each time, may have far
+// more: then there is no answer within the bounds that the document has.
+const mostNodes = (1<<31 - 1) / 64
+
+// copyOf is a pred of a scheme where that is used.
+func (s *solver) copyOf(p pred, c *copier) pred {
+	before := c.nodes
+	of := c.copy(p.of)
+	s.nodes += 1 + c.nodes - before
+	s.failed = s.failed || s.nodes > mostNodes
+	return pred{class: p.class, of: of}
+}
+
 // reduced is the preds to which those come that are required in a group, each
 // once.
 func (s *solver) reduced(g *group) []pred {
@@ -70,7 +84,10 @@ func (s *solver) reduced(g *group) []pred {
 	for _, u := range g.uses {
 		u.copier.other = func(*term) *term { return s.unknown }
 		for _, p := range u.of.kept {
-			s.reduce(pred{class: p.class, of: u.copier.copy(p.of)}, add)
+			if s.failed {
+				return nil
+			}
+			s.reduce(s.copyOf(p, u.copier), add)
 		}
 	}
 	return all

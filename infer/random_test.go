@@ -244,6 +244,7 @@ func (m *maker) with(names ...string) string {
 type typedMaker struct {
 	maker
 	typeOf map[string]api.Type
+	safe   bool // whether nothing is made whose type is not known
 }
 
 func (m *typedMaker) goal(depth int) api.Type {
@@ -337,7 +338,7 @@ func (m *typedMaker) of(t api.Type, depth int) string {
 	if depth <= 0 {
 		return m.simple(t)
 	}
-	if m.Intn(60) == 0 {
+	if m.Intn(60) == 0 && !m.safe {
 		return m.expression(1)
 	}
 	con, a, b := parts(t)
@@ -353,7 +354,7 @@ func (m *typedMaker) of(t api.Type, depth int) string {
 	case 4:
 		return "(case " + e(other) + " of { " + m.branch(other, t, depth) + "; " + m.branch(other, t, depth) + " })"
 	case 5:
-		return m.pick("conv ", "const ", "(\\z -> const z) ") + e(t) + " " + e(other)
+		return "(" + m.pick("conv ", "const ", "(\\z -> const z) ") + e(t) + " " + e(other) + ")"
 	case 6, 7:
 		return m.within(func() string { return "(let { " + m.bindings(depth-1) + " } in " + e(t) + ")" })
 	}

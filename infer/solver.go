@@ -39,6 +39,7 @@ type solver struct {
 	closed  []*group           // those whose types are inferred, each behind what it uses
 	given   map[slot]struct{}  // the preds that a DInst gives
 	unknown *term              // what stands for ambiguous variables that no type tells
+	nodes   int                // how many nodes copies of preds have
 
 	failed    bool // whether there is ErrType
 	lacking   bool // whether there is ErrInstance
@@ -142,7 +143,7 @@ func (s *solver) use(g *group, name string) *term {
 	}
 	t := c.copy(k.of)
 	for _, p := range k.preds {
-		g.required = append(g.required, pred{class: p.class, of: c.copy(p.of)})
+		g.required = append(g.required, s.copyOf(p, c))
 	}
 	if k.within != nil && len(c.made) > 0 {
 		g.uses = append(g.uses, use{of: k.within, copier: c})
