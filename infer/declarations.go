@@ -91,7 +91,7 @@ func (s *solver) rhs(g *group, rhs *api.Node, t *term) {
 
 // method infers the types of a DFun of a DInst.
 func (s *solver) method(inst, d *api.Node) api.Errno {
-	g := &group{level: atTop, patterns: true}
+	g := &group{level: atTop}
 	t := s.methodType(inst, d)
 	if t.isTooBig() {
 		return api.ErrType

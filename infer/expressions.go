@@ -52,11 +52,11 @@ func (s *solver) visit(g *group, e *api.Node, t *term) {
 	}
 }
 
-// part is the constraints of an expression or of a pattern.
-type part func(*group, *api.Node, *term)
+// rule leaves it to do that an expression, or a pattern, has a type.
+type rule func(*group, *api.Node, *term)
 
 // each is the types of several parts.
-func (s *solver) each(g *group, parts []api.Node, do part) []*term {
+func (s *solver) each(g *group, parts []api.Node, do rule) []*term {
 	types := make([]*term, len(parts))
 	for i := range parts {
 		types[i] = s.fresh(g)
@@ -66,7 +66,7 @@ func (s *solver) each(g *group, parts []api.Node, do part) []*term {
 }
 
 // all is several parts that have the same type.
-func (s *solver) all(g *group, parts []api.Node, t *term, do part) {
+func (s *solver) all(g *group, parts []api.Node, t *term, do rule) {
 	for i := range parts {
 		do(g, &parts[i], t)
 	}
@@ -132,7 +132,7 @@ func (s *solver) construct(g *group, con string, t *term) []*term {
 }
 
 // record is the constraints of an EMake or PMake.
-func (s *solver) record(g *group, n *api.Node, t *term, do part) {
+func (s *solver) record(g *group, n *api.Node, t *term, do rule) {
 	fields := s.construct(g, n.Name, t)
 	for i := range n.Subs {
 		f := &n.Subs[i]

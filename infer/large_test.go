@@ -343,6 +343,12 @@ func TestDoubling(t *testing.T) {
 	bind := node(api.EOps, apply(variable("return"), y), call(api.EOp, "=="), variable("m"))
 	both := node(api.ETup, lambda(bind, named("m")), lambda(bind, named("m")))
 	wantQuickly(t, "a pred of what is applied to it", "ErrAmbiguous", hidden(start(chain(both))))
+	// A local name keeps such a pred: what it is of is copied.
+	class = declared(t, "class K a where { k :: a -> Int }\ninstance K (Maybe a) where\ninstance Eq a => K [a] where\n")
+	inner := chain(apply(variable("k"), node(api.EOps, variable("m"), call(api.EOp, ">>="), lambda(apply(variable("return"), y), node(api.PWild)))))
+	g := function("g", []api.Node{named("m"), named("y")}, inner)
+	wantQuickly(t, "a kept pred", "a -> Int", let(apply(variable("g"), apply(call(api.ECon, "Just"), number(1)), variable("x")), g), class...)
+	wantQuickly(t, "a kept pred that requires many", "ErrType", let(apply(variable("g"), node(api.EList, number(1)), variable("x")), g), class...)
 }
 
 // Preds of very many variables, through very many levels of groups.

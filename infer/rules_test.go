@@ -135,6 +135,27 @@ func TestFunctionRules(t *testing.T) {
 	}
 }
 
+// No type is a part of itself, in the type of a name or anywhere else.
+func TestEndless(t *testing.T) {
+	for _, text := range []string{
+		"§f x = x x",
+		"§f = const 1 (\\x -> x x)",
+		"§f = const 1 (\\x -> x == [x])",
+		"§f = const 1 (\\x -> show x == show (x, [x : x]))",
+		"§f = const 1 (\\x y z -> [(x, y, z), (y, [z], [x])])",
+		"§f = const 1 (\\x y z -> [(x, y, z), ([y], z, (x, 1))])",
+		"§f = const 1 (\\x y -> let g z = [x, y] in [x, [g 1]])",
+		"§f = const 1 (\\x -> let g z = x in case x of { [y] -> [x, g y, g (g y)] == [y] })",
+		"§f = case error of { (x, y) -> const 1 [x, \\z -> x] }",
+		"§f = const 1 (\\x -> let (y, z) = (head x, [x]) in [x, z])",
+		"§f = const 1 (do { x <- getByte; y <- error; return (y == [y]) })",
+		"instance Show (a -> b) where { §show f = const [] (\\x -> x x) }",
+	} {
+		wantWrong(t, api.ErrType, text)
+	}
+	wantType(t, "(a -> b) -> a -> Int", "f g x = const 1 (\\y z -> [(x, y, z), (x, g x, [x])])")
+}
+
 // Those of patterns.
 func TestPatternRules(t *testing.T) {
 	data := "data P a = Z | D a (P a) Int | R { l :: a, k :: Int }\n"

@@ -68,12 +68,12 @@ func tupleOf(parts ...*term) *term {
 	return applied("Prim.(,,)", parts...)
 }
 
-// split takes the type of a function apart that has so many arguments at least.
+// split takes the type of a function apart that has so many arguments at least,
+// as schemes have it.
 func split(t *term, count int) ([]*term, *term) {
 	arguments := make([]*term, count)
 	for i := range arguments {
-		t = t.find()
-		arguments[i] = t.parts[0].find().parts[1]
+		arguments[i] = t.parts[0].parts[1]
 		t = t.parts[1]
 	}
 	return arguments, t

@@ -11,11 +11,10 @@ import (
 
 // text is a scheme of a name at the top as it is written.
 func (k *scheme) text() string {
-	names := map[*term]string{}
+	w := &writer{numbers: map[*term]int{}, made: map[*term][]api.Type{}}
 	for i, v := range k.of.variables(k.level) {
-		names[v] = variableName(i)
+		w.numbers[v] = i
 	}
-	w := &writer{names: names, made: map[*term][]api.Type{}}
 	var preds []string
 	for _, p := range k.preds {
 		class := api.Type{Kind: api.TCon, Name: shortName(p.class)}
@@ -51,8 +50,8 @@ func shortName(name string) string {
 
 // writer makes types of terms.
 type writer struct {
-	names map[*term]string
-	made  map[*term][]api.Type // the parts of what has been made
+	numbers map[*term]int        // those of the variables
+	made    map[*term][]api.Type // the parts of what has been made
 }
 
 // gap is a place at which the type of a term is missing.
@@ -73,7 +72,7 @@ func (w *writer) write(t *term) api.Type {
 		last.into.Kind = of.kind
 		switch of.kind {
 		case api.TVar:
-			last.into.Name = w.names[of]
+			last.into.Name = variableName(w.numbers[of])
 		case api.TCon:
 			last.into.Name = writtenName(of.name)
 		case api.TApp:
