@@ -57,6 +57,12 @@ func TestLocalGroups(t *testing.T) {
 	wantWrong(t, api.ErrType, "§f x = let { i = x } in (i 1, i True)")
 	wantWrong(t, api.ErrType, "§f x = let { g y = [x, y] } in (g 1, g True)")
 	wantWrong(t, api.ErrType, "§f x = (g 1, g True) where { g y = f y }")
+	// So has all that turns out to be a part of it, beside what is outer anyway.
+	for _, whole := range []string{"y", "[y]", "(y, z)", "(z, y)", "(y, z, z)", "(z, y, z)", "(z, z, y)", "((z, y), z)", "(z, (y, z))", "(\\u -> const y [u, z])", "(\\u -> const z [u, y])"} {
+		wantWrong(t, api.ErrType, "§f x z = let g y = const y [x, "+whole+"] in (g 1, g True)")
+		wantWrong(t, api.ErrType, "§f x z = let g y = const y ["+whole+", x] in (g 1, g True)")
+		wantWrong(t, api.ErrType, "§f x z = let g y = let h = const (x "+whole+") in const y (h 1) in (g 1, g True)")
+	}
 	wantType(t, "(a -> b) -> (a -> b, a -> b)", "f g = let h y = g y in (h, h)")
 	wantType(t, "a -> (Maybe [a], (Int, Bool))", "f x = let { g y = const y [x]; (h, k) = (Just [x], g) } in (h, (k 1, k True))")
 	wantType(t, "Int -> ([Int], [Int])", "f x = let { g y = [x, y] } in (g 1, g x)")

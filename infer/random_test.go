@@ -456,6 +456,19 @@ func (m *typedMaker) program() string {
 	return text + "data T a = T a\ninstance " + given + "Eq (T a) where\n  T v90 == T v91 = " + m.of(tbool(), 2) + "\n"
 }
 
+// wantReference is the types and the error of a program, which must be those
+// that are found word by word.
+func wantReference(t *testing.T, text string) ([]api.Typed, api.Diag) {
+	t.Helper()
+	mods := trees(t, small, text)
+	want, d := referenceTypes(mods...)
+	got, e := infer.Types(mods...)
+	if d != e || !slices.Equal(got, want) {
+		t.Fatalf("%s\ngot:\n%s %+v\n%s\nwant:\n%s %+v\n%s", text, diagText(e), e, say(got), diagText(d), d, say(want))
+	}
+	return got, e
+}
+
 // P9.1, P9.2: random programs have the types, and the errors, that are found
 // word by word.
 func TestRandom(t *testing.T) {
@@ -467,12 +480,7 @@ func TestRandom(t *testing.T) {
 		if i%6 == 0 {
 			text = m.program()
 		}
-		mods := trees(t, small, text)
-		want, d := referenceTypes(mods...)
-		got, e := infer.Types(mods...)
-		if d != e || !slices.Equal(got, want) {
-			t.Fatalf("%s\ngot:\n%s %+v\n%s\nwant:\n%s %+v\n%s", text, diagText(e), e, say(got), diagText(d), d, say(want))
-		}
+		got, d := wantReference(t, text)
 		counts[errorText(d.Number)]++
 		if d.Number == api.OK && strings.Contains(say(got), "=>") {
 			counts["preds"]++
