@@ -23,6 +23,12 @@ func TestRequired(t *testing.T) {
 		{"(Eq (a (b, [c])), Monad a) => a (b, [c]) -> b -> Bool", "f m x = return (x, []) == m"},
 		{"Eq (a b c) => T a b c -> Bool", "data T f a b = T (f a b)\nf (T x) = x == x"},
 		{"Eq (a (b -> c)) => T a (b -> c) -> Bool", "data T f a = T (f a) a\nf (T x g) = x == x && seq (\\y -> g y) True"},
+		// Preds of the same class are different if the heads of their types are, or the arguments.
+		{"(Eq (a Int), Eq (b Int), Monad a, Monad b) => a Int -> b Int -> (Bool, Bool)", "f x y = (x == return 1, y == return 1)"},
+		{"(Eq (a b), Eq (c b), Eq (d b)) => T a b -> T c b -> T d b -> Bool", "data T f a = T (f a) a\nf (T x a) (T y b) (T z c) = x == x && y == y && z == z && seq [a, b, c] True"},
+		{"(Eq (a b), Eq (c b), Eq b, Monad a, Monad c) => a b -> c b -> b -> (Bool, Bool)", "f x y z = (x == return z, y == return z && z == z)"},
+		{"(Eq (a b), Eq (a d), Eq (c b), Monad a, Monad c) => a b -> c b -> a d -> b -> d -> [Bool]", "f x y z u v = [x == return u, (x >> z) == return v, y == return u]"},
+		{"(Eq (a b c), Eq (d b c)) => T a b c -> T d b c -> Bool", "data T f a b = T (f a b) a b\nf (T x a b) (T y c d) = x == x && y == y && seq [(a, b), (c, d)] True"},
 		// Each name of a group has all that the group requires.
 		{"(Eq a, Show a) => a -> a -> [Int]", "f x y = if x == y then [] else g x y\ng x y = show x ++ f y x"},
 		{"Eq a => a -> Bool", "f x = g x\ng x = f x == True || h x\nh x = g x && x == x"},
