@@ -153,6 +153,12 @@ func TestOpen(t *testing.T) {
 	} {
 		wantWrong(t, api.ErrAmbiguous, class+text)
 	}
+	// What is required at a use is looked at beside what is ambiguous.
+	pair := "data P a b = P a b\nclass K k where { mk :: k a -> k b }\ninstance K (P a) where { mk x = error }\ninstance (Eq a, Eq b) => Eq (P a b) where { x == y = True }\n"
+	wantWrong(t, api.ErrAmbiguous, pair+"§f = let g m = mk m == mk m in g (P 1 1)")
+	wantWrong(t, api.ErrInstance, pair+"§f = let g m = mk m == mk m in g (P id 1)")
+	wantWrong(t, api.ErrInstance, pair+"§f = let g m = P (mk m) [id] == P (mk m) [id] in g (P 1 1)")
+	wantWrong(t, api.ErrInstance, pair+"§f = let g m = P [id] (mk m) == P [id] (mk m) in g (P 1 1)")
 	// With Int put for it, a use does not fit.
 	wantWrong(t, api.ErrType, "§f = let { (g, h) = (\\x -> x == x, 1) } in (g True, h)")
 	wantWrong(t, api.ErrType, "§f = let { (g, h) = (\\x -> x == x, 1) } in let { k x = g x } in let { l x = k x } in (l True, h)")

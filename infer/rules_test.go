@@ -246,6 +246,35 @@ func TestDoRules(t *testing.T) {
 	}
 }
 
+// A declaration with an EDo uses the >>= of the Prelude, also in the Prelude
+// itself, where that may be a value of any type.
+func TestDoUses(t *testing.T) {
+	const start = "module Prelude where\nimport Prim\n"
+	for _, x := range []struct{ want, text string }{
+		{"a -> [[a]]", "f x = do { y <- x; g y }\ng x = [x]\nx >>= y = y [x]"},
+		{"a -> b -> b", "f x y = do { x; y }\nx >>= y = y [x]"},
+		{"a -> [a]", "f x = do { y <- x; let { z = y }; z }\nx >>= y = y [x]"},
+		{"a -> b", "f x = do { y <- x; y }\nx >>= y = do { z <- x; y z }"},
+		{"a -> a", "f x = do { x }\nx >>= y = f y"},
+	} {
+		all, d := infer.Types(tree(t, start+x.text))
+		if d != (api.Diag{}) || all[0] != (api.Typed{Name: "Prelude.f", Type: x.want}) {
+			t.Error(x, all, d)
+		}
+	}
+	for line, text := range []string{
+		"f = 1 1\ng = do { f; f }\nx >>= y = 1 1",
+		"f = do { f; f }\ng = 1 1\nx >>= y = 1 1",
+		"f = do { 1 }\nx >>= y = f 1",
+		"f = do { let { g = 1 }; g }\nx >>= y = 1 1\ng = 1 1",
+	} {
+		want := api.Diag{File: "Prelude", Line: 3 + line%2, Col: 1, Number: api.ErrType}
+		if all, d := infer.Types(tree(t, start+text)); d != want || len(all) != 0 {
+			t.Error(text, all, d)
+		}
+	}
+}
+
 // Those of records.
 func TestRecordRules(t *testing.T) {
 	data := "data R a b = R { x :: a, y :: b, z :: Int } | S { u :: a, v :: [a] } | T a Int\n"
