@@ -264,6 +264,7 @@ func TestShared(t *testing.T) {
 			wantWords(t, "Free", core.Free(app(lam("x", e), f)), "y")
 			wantWords(t, "Binders", core.Binders(e), "")
 			wantWords(t, "Binders", core.Binders(lam("a", let(e, bind("b", cas(f, "c", conAlt("C", "d e", e), other(lam("f", e))))))), "a b c d e f")
+			wantWords(t, "Binders", core.Binders(con("C", app(e, prim(api.Put, lam("a", e))), app(e, e))), "a")
 			if !core.Same(e, e) || !core.Same(e, nested(times, v("x"), doubled)) || core.Same(e, f) || core.Same(e, nested(times, v("x"), func(e api.Expr) api.Expr { return app(e, e, e) })) {
 				t.Error(times, "Same")
 			}
@@ -293,6 +294,17 @@ func TestShared(t *testing.T) {
 	if got := len(core.Binders(nested(20, lam("v w", v("x")), doubled))); got != 2<<20 {
 		t.Error(got)
 	}
+	hold20(t, "long Names", func() {
+		names := make([]string, 10000)
+		long := nested(14, api.Expr{Kind: api.Lam, Names: names, Subs: []api.Expr{v("x")}}, doubled)
+		if got := core.Replace(long, "x", v("y")); !equal(got, api.Expr{}) {
+			t.Error(core.Size(got))
+		}
+		wantWords(t, "Free", core.Free(long), "x")
+		if got := len(core.Binders(long)); got != 0 && got != len(names)<<14 {
+			t.Error(got)
+		}
+	})
 	hold20(t, "levels", func() {
 		e := nested(60000, v("x"), doubled)
 		askAll(e, nested(60000, v("x"), doubled))
