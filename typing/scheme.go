@@ -1,4 +1,4 @@
-package infer
+package typing
 
 import (
 	"math"
@@ -68,12 +68,14 @@ func tupleOf(parts ...*term) *term {
 	return applied("Prim.(,,)", parts...)
 }
 
-// split takes the type of a function apart that has so many arguments at least,
-// as schemes have it.
+// split takes the type of a function apart that has so many arguments at least.
+// A type without variables is not copied where it is used, and so may have turned
+// out to be the same as others by then.
 func split(t *term, count int) ([]*term, *term) {
 	arguments := make([]*term, count)
 	for i := range arguments {
-		arguments[i] = t.parts[0].parts[1]
+		t = t.find()
+		arguments[i] = t.parts[0].find().parts[1]
 		t = t.parts[1]
 	}
 	return arguments, t

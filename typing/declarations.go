@@ -1,4 +1,4 @@
-package infer
+package typing
 
 import "teasel/api"
 
@@ -8,14 +8,15 @@ func (s *solver) open(around *group, declarations ...*api.Node) {
 	if around != nil {
 		g.level = around.level + 1
 	}
-	for _, name := range boundBy(declarations...) {
+	for _, name := range Bound(declarations...) {
 		t := s.fresh(g)
 		g.types = append(g.types, t)
-		s.bind(name, t)
+		s.known[name] = &scheme{of: t, level: single, within: g}
 	}
 	s.later(func() { s.close(g, declarations...) })
 	for _, d := range declarations {
 		if d.Kind == api.DFun {
+			g.functions = append(g.functions, d)
 			s.clauses(g, d, s.known[d.Name].of)
 			continue
 		}
@@ -34,7 +35,7 @@ func (s *solver) close(g *group, declarations ...*api.Node) {
 			return
 		}
 	}
-	for _, name := range boundBy(declarations...) {
+	for _, name := range Bound(declarations...) {
 		s.known[name] = &scheme{of: s.known[name].of, level: g.level, within: g}
 	}
 	s.bound = append(s.bound, g.types...)
@@ -90,7 +91,7 @@ func (s *solver) rhs(g *group, rhs *api.Node, t *term) {
 }
 
 // method infers the types of a DFun of a DInst.
-func (s *solver) method(inst, d *api.Node) api.Errno {
+func (s *solver) method(inst, d *api.Node, params *Params) api.Errno {
 	g := &group{level: atTop}
 	t := s.methodType(inst, d)
 	if t.isTooBig() {
@@ -98,7 +99,11 @@ func (s *solver) method(inst, d *api.Node) api.Errno {
 	}
 	s.later(func() { s.closed = append(s.closed, g) })
 	s.clauses(g, d, t)
-	return s.solve()
+	errno := s.solve()
+	if errno == api.OK && s.program.Uses != nil {
+		s.explain(params)
+	}
+	return errno
 }
 
 // methodType is the type that a DFun of a DInst must have. What stands for the
@@ -116,7 +121,9 @@ func (s *solver) methodType(inst, d *api.Node) *term {
 	of := own.copy(quantified)
 	for _, p := range inst.Subs[0].Subs {
 		con := own.variable(variables[p.Subs[0].Name]).name
-		s.given[slot{class: p.Name, con: con}] = struct{}{}
+		if _, found := s.given[slot{class: p.Name, con: con}]; !found {
+			s.given[slot{class: p.Name, con: con}] = len(s.given)
+		}
 	}
 	k := s.program.known[d.Name]
 	c := &copier{from: atTop, made: map[*term]*term{k.preds[0].of: of}, other: arbitrary}

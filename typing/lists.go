@@ -1,4 +1,4 @@
-package infer
+package typing
 
 import "teasel/api"
 
@@ -68,7 +68,7 @@ func (f *finder) add(at *api.Node, declarations []*api.Node) {
 	for i := len(declarations) - 1; i >= 0; i-- {
 		d := declarations[i]
 		f.left = append(f.left, look{at: d}, look{next: place{list: l, at: i}})
-		for _, name := range boundBy(d) {
+		for _, name := range Bound(d) {
 			f.places[name] = place{list: l, at: i}
 		}
 	}

@@ -1,4 +1,4 @@
-package infer
+package typing
 
 import (
 	"slices"
@@ -14,14 +14,20 @@ type group struct {
 	types    []*term
 	patterns bool // whether it contains a DPat
 	required []pred
-	uses     []use
+	uses     []*use // those of local names, which require the preds that their groups keep
 	kept     []pred // those that its names have in their schemes
+
+	functions []*api.Node // its DFuns
+	dicts     []*Dict     // those that its names take
 }
 
-// use is a use of a local name, which requires the preds that its group keeps.
+// use is a use of a name.
 type use struct {
-	of     *group
+	at     *api.Node
+	of     *group // that of a name that is bound in the solver's group
+	inside bool   // whether it stands in that one
 	copier *copier
+	preds  []pred // those of the name's scheme, as they are there
 }
 
 // solver infers the types of a group at the top, and of all that is within it.
@@ -29,7 +35,7 @@ type use struct {
 // preds of each group when all types are known: in which order the parts of a
 // declaration are looked at must not matter.
 type solver struct {
-	program *program
+	program *Program
 	lists   map[*api.Node]*list
 	known   map[string]*scheme // the names that are bound in the group
 	left    []func()           // what is left to do, the next at the end
@@ -37,7 +43,8 @@ type solver struct {
 	copies  map[*term][]*term  // of the variables in schemes of local names: what stands for them at each use
 	bound   []*term            // the types of the names that declarations bind
 	closed  []*group           // those whose types are inferred, each behind what it uses
-	given   map[slot]struct{}  // the preds that a DInst gives
+	given   map[slot]int       // the preds that a DInst gives, and the place of each among its Needs
+	uses    []*use             // those whose dictionaries will be told
 	unknown *term              // what stands for ambiguous variables that no type tells
 	nodes   int                // how many nodes copies of preds have
 
@@ -46,13 +53,13 @@ type solver struct {
 	ambiguous bool // whether there is ErrAmbiguous
 }
 
-func newSolver(p *program, lists map[*api.Node]*list) *solver {
+func newSolver(p *Program, lists map[*api.Node]*list) *solver {
 	return &solver{
 		program: p,
 		lists:   lists,
 		known:   map[string]*scheme{},
 		copies:  map[*term][]*term{},
-		given:   map[slot]struct{}{},
+		given:   map[slot]int{},
 		unknown: newVariable(atTop - 1),
 	}
 }
@@ -63,9 +70,12 @@ func (s *solver) values(declarations ...*api.Node) api.Errno {
 	if errno := s.solve(); errno != api.OK {
 		return errno
 	}
-	for _, name := range boundBy(declarations...) {
+	for _, name := range Bound(declarations...) {
 		k := s.known[name]
 		s.program.known[name] = &scheme{of: k.of, level: atTop, preds: k.within.kept}
+	}
+	if s.program.Uses != nil {
+		s.explain(nil)
 	}
 	return api.OK
 }
@@ -128,25 +138,37 @@ func (s *solver) bind(name string, t *term) {
 
 // use is the type of a name where it is used in a group, which then requires
 // the preds of its scheme.
-func (s *solver) use(g *group, name string) *term {
+func (s *solver) use(g *group, at *api.Node, name string) *term {
+	u := &use{at: at}
+	t := s.instance(g, u, name)
+	if s.program.Uses != nil && (u.of != nil || len(u.preds) > 0) {
+		s.uses = append(s.uses, u)
+	}
+	return t
+}
+
+// instance is the type for a use.
+func (s *solver) instance(g *group, u *use, name string) *term {
 	k := s.known[name]
 	if k == nil {
 		k = s.program.known[name]
 	}
-	c := &copier{from: k.level, to: g.level, made: map[*term]*term{}}
-	c.other = func(v *term) *term {
+	u.copier = &copier{from: k.level, to: g.level, made: map[*term]*term{}}
+	u.copier.other = func(v *term) *term {
 		n := s.fresh(g)
 		if k.within != nil {
 			s.copies[v] = append(s.copies[v], n)
 		}
 		return n
 	}
-	t := c.copy(k.of)
+	t := u.copier.copy(k.of)
 	for _, p := range k.preds {
-		g.required = append(g.required, s.copyOf(p, c))
+		u.preds = append(u.preds, s.copyOf(p, u.copier))
 	}
-	if k.within != nil && len(c.made) > 0 {
-		g.uses = append(g.uses, use{of: k.within, copier: c})
+	g.required = append(g.required, u.preds...)
+	u.of, u.inside = k.within, k.level == single
+	if k.within != nil && len(u.copier.made) > 0 {
+		g.uses = append(g.uses, u)
 	}
 	return t
 }

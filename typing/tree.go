@@ -1,4 +1,4 @@
-package infer
+package typing
 
 import (
 	"slices"
@@ -22,9 +22,9 @@ func valuesOf(tree *api.Node) []*api.Node {
 	return declarationsOf(tree, api.DFun, api.DPat)
 }
 
-// boundBy is the names that declarations bind, in the order of the tree. What is
+// Bound is the names that declarations bind, in the order of the tree. What is
 // left is kept on a stack: patterns may be too deep for calls within calls.
-func boundBy(declarations ...*api.Node) []string {
+func Bound(declarations ...*api.Node) []string {
 	var names []string
 	for _, d := range declarations {
 		if d.Kind == api.DFun {

@@ -1,4 +1,4 @@
-package infer
+package typing
 
 import "teasel/api"
 

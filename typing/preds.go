@@ -1,4 +1,4 @@
-package infer
+package typing
 
 import (
 	"slices"
@@ -87,7 +87,8 @@ func (s *solver) reduced(g *group) []pred {
 			if s.failed {
 				return nil
 			}
-			s.reduce(s.copyOf(p, u.copier), add)
+			u.preds = append(u.preds, s.copyOf(p, u.copier))
+			s.reduce(u.preds[len(u.preds)-1], add)
 		}
 	}
 	return all

@@ -1,4 +1,4 @@
-package infer
+package typing
 
 import "teasel/api"
 
@@ -15,16 +15,9 @@ type field struct {
 	at  int
 }
 
-// program is what is known of the modules so far.
-type program struct {
-	insts  map[slot][]api.Need
-	known  map[string]*scheme // values and constructors, by their qualified names
-	fields map[string]field
-}
-
 // newProgram knows the module Prim.
-func newProgram(insts []api.Inst) *program {
-	p := &program{insts: map[slot][]api.Need{}, known: map[string]*scheme{}, fields: map[string]field{}}
+func newProgram(insts []api.Inst) *Program {
+	p := &Program{insts: map[slot][]api.Need{}, known: map[string]*scheme{}, fields: map[string]field{}}
 	for _, i := range insts {
 		p.insts[slot{class: i.Class, con: i.Con, arguments: i.Args}] = i.Needs
 	}
@@ -47,19 +40,19 @@ func newProgram(insts []api.Inst) *program {
 	return p
 }
 
-func (p *program) addCon(name string, result *term, fields ...*term) {
+func (p *Program) addCon(name string, result *term, fields ...*term) {
 	p.known[name] = &scheme{of: function(result, fields...), level: atTop, fields: len(fields)}
 }
 
 // addValues adds values of Prim that have the same type.
-func (p *program) addValues(t *term, names ...string) {
+func (p *Program) addValues(t *term, names ...string) {
 	for _, name := range names {
 		p.known["Prim."+name] = &scheme{of: t, level: atTop}
 	}
 }
 
 // declare adds what has a given scheme in a module.
-func (p *program) declare(tree *api.Node) {
+func (p *Program) declare(tree *api.Node) {
 	for i := range tree.Subs[2].Subs {
 		switch d := &tree.Subs[2].Subs[i]; d.Kind {
 		case api.DData:
@@ -70,7 +63,7 @@ func (p *program) declare(tree *api.Node) {
 	}
 }
 
-func (p *program) data(d *api.Node) {
+func (p *Program) data(d *api.Node) {
 	variables := map[string]*term{}
 	result := newCon(d.Name)
 	for i := range d.Subs[0].Subs {
@@ -93,7 +86,7 @@ func (p *program) data(d *api.Node) {
 	}
 }
 
-func (p *program) class(d *api.Node) {
+func (p *Program) class(d *api.Node) {
 	for i := range d.Subs[1].Subs {
 		method := &d.Subs[1].Subs[i]
 		variables := map[string]*term{}
@@ -106,7 +99,7 @@ func (p *program) class(d *api.Node) {
 // module adds the names of a module with the schemes that are inferred, or
 // answers the declaration at which an error is. All modules that it imports have
 // been added.
-func (p *program) module(tree *api.Node) (*api.Node, api.Errno) {
+func (p *Program) module(tree *api.Node) (*api.Node, api.Errno) {
 	p.declare(tree)
 	lists := listsOf(tree)
 	for _, declarations := range lists[&tree.Subs[2]].groups {
@@ -115,12 +108,24 @@ func (p *program) module(tree *api.Node) (*api.Node, api.Errno) {
 		}
 	}
 	for _, inst := range declarationsOf(tree, api.DInst) {
+		params := p.paramsOf(inst)
 		for i := range inst.Subs[2].Subs {
 			method := &inst.Subs[2].Subs[i]
-			if errno := newSolver(p, lists).method(inst, method); errno != api.OK {
+			if errno := newSolver(p, lists).method(inst, method, params); errno != api.OK {
 				return method, errno
 			}
 		}
 	}
 	return nil, api.OK
+}
+
+// paramsOf is what the dictionary of a DInst takes, which is of no group.
+func (p *Program) paramsOf(inst *api.Node) *Params {
+	of := termOf(&inst.Subs[1], map[string]*term{})
+	needs := p.insts[slot{class: inst.Name, con: of.head().name, arguments: len(of.arguments())}]
+	params := &Params{Count: len(needs), level: atTop - 1}
+	if p.Params != nil && params.Count > 0 {
+		p.Params[inst] = params
+	}
+	return params
 }

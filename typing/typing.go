@@ -1,0 +1,85 @@
+// Package typing infers the types of modules: see shared/doc/09-infer.md. Package
+// infer tells them; package desugar needs what they come to besides, the
+// dictionaries for the preds of each name where it is used.
+package typing
+
+import (
+	"teasel/api"
+	"teasel/classes"
+	"teasel/fix"
+)
+
+// Program is modules whose values have types.
+type Program struct {
+	Trees []api.Node // the result of fix.Mend
+
+	// What Explain tells beside: the dictionaries that a name takes where it is
+	// used, at its EVar or at a statement of an EDo; and those that the name of a
+	// DFun, or the dictionary of a DInst, takes. Nothing stands for none.
+	Uses   map[*api.Node][]*Dict
+	Params map[*api.Node]*Params
+
+	insts  map[slot][]api.Need
+	known  map[string]*scheme // values and constructors, by their qualified names
+	fields map[string]field
+}
+
+// Infer is modules with the types of their values, or what is wrong first in
+// them.
+func Infer(mods ...api.Node) (*Program, api.Diag) {
+	return infer(false, mods...)
+}
+
+// Explain is what Infer is, with dictionaries.
+func Explain(mods ...api.Node) (*Program, api.Diag) {
+	return infer(true, mods...)
+}
+
+func infer(explain bool, mods ...api.Node) (*Program, api.Diag) {
+	insts, diag := classes.Insts(mods...)
+	if diag.Number != api.OK {
+		return nil, diag
+	}
+	trees, diag := fix.Mend(mods...)
+	if diag.Number != api.OK {
+		return nil, diag
+	}
+	p := newProgram(insts)
+	p.Trees = trees
+	if explain {
+		p.Uses, p.Params = map[*api.Node][]*Dict{}, map[*api.Node]*Params{}
+	}
+	for i := range trees {
+		tree := &trees[i]
+		if wrong, errno := p.module(tree); errno != api.OK {
+			return nil, api.Diag{File: tree.Name, Line: wrong.Line, Col: wrong.Col, Number: errno}
+		}
+	}
+	return p, api.Diag{}
+}
+
+// Names is those of the DFuns at the top of a module, and of the variables of
+// its DPats, in the order of the tree.
+func Names(tree *api.Node) []string {
+	return Bound(valuesOf(tree)...)
+}
+
+// Text is the scheme of a name at the top as it is written.
+func (p *Program) Text(name string) string {
+	return p.known[name].text()
+}
+
+// Action is the dictionaries that a name at the top takes as an IO of an Int,
+// and whether its scheme can be instantiated to that, and all its preds hold
+// then.
+func (p *Program) Action(name string) ([]*Dict, bool) {
+	s := newSolver(p, nil)
+	g := &group{level: atTop}
+	u := &use{}
+	s.unify(s.instance(g, u, name), applied("Prim.IO", integer()))
+	if s.failed {
+		return nil, false
+	}
+	m := newMaker(s)
+	return m.dicts(u.preds...), !m.lacking
+}
