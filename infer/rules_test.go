@@ -18,6 +18,20 @@ func TestExamples(t *testing.T) {
 	wantWrong(t, api.ErrAmbiguous, "class C a where { c :: a }\n§f = show c")
 }
 
+// Types without variables, which turn out to be the same as others first.
+func TestConstructorAgain(t *testing.T) {
+	const data = "data T = T Int Int | R { a :: Int, b :: Int }\n"
+	for _, x := range []string{
+		"f = case T 1 of g -> case g 2 of T a b -> a",
+		"f = case R 1 of g -> case (g 2, g 3) of (R { b = x, a = y }, R a b) -> x + y + a + b",
+		"f = a ((h 2) { b = 3, a = 4 }) where h = R 1",
+		"f = a (R { b = g (k R), a = 2 }) where { k h = h 1 2; g (R x y) = x }",
+		"f = case map (T 1) [2] of [T a b] -> a + b",
+	} {
+		wantTypes(t, "f : Int", data+x)
+	}
+}
+
 // The whole Prelude.
 func TestPrelude(t *testing.T) {
 	all, d := infer.Types(tree(t, api.Prelude))
