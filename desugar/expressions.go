@@ -30,7 +30,7 @@ func (t *translator) each(nodes []api.Node) []api.Expr {
 }
 
 func (t *translator) value(n *api.Node) api.Expr {
-	return app(variable(t.name(n.Name)), t.taken(n)...)
+	return app(variable(t.name(n.Name)), t.dicts(t.program.Uses[n])...)
 }
 
 // construct is a constructor with fields, or with the first ones.
@@ -147,7 +147,7 @@ func (t *translator) action(all []api.Node) api.Expr {
 	if first.Kind == api.SGen {
 		pats, action = first.Subs[:1], &first.Subs[1]
 	}
-	args := append(t.taken(first), t.expression(action))
+	args := append(t.dicts(t.program.Binds[first]), t.expression(action))
 	if t.isFull() {
 		return raise()
 	}

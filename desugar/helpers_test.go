@@ -81,3 +81,6 @@ func wantNumber(t *testing.T, want int, expression string, declarations ...strin
 	t.Helper()
 	wantRun(t, "", done(want), "main = return ("+expression+")\n"+strings.Join(declarations, "\n"))
 }
+
+// replaced is a text with another one in place of BAD.
+func replaced(text, by string) string { return strings.ReplaceAll(text, "BAD", by) }

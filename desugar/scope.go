@@ -36,11 +36,7 @@ func instance(class, con string) string { return class + "#" + con }
 
 func dictionary(class string) string { return class + "#" }
 
-// taken is the dictionaries that a name takes where it is used.
-func (t *translator) taken(at *api.Node) []api.Expr {
-	return t.dicts(t.program.Uses[at])
-}
-
+// dicts is dictionaries that a name takes where it is used.
 func (t *translator) dicts(dicts []*typing.Dict) []api.Expr {
 	if !t.spend(len(dicts)) {
 		return nil

@@ -125,7 +125,11 @@ func (s *solver) explain(inst *Params) {
 		if u.inside {
 			dicts = u.of.dicts
 		}
-		if len(dicts) > 0 {
+		switch {
+		case len(dicts) == 0:
+		case u.binds:
+			s.program.Binds[u.at] = dicts
+		default:
 			s.program.Uses[u.at] = dicts
 		}
 	}

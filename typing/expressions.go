@@ -13,7 +13,7 @@ func (s *solver) expression(g *group, e *api.Node, t *term) {
 func (s *solver) visit(g *group, e *api.Node, t *term) {
 	switch e.Kind {
 	case api.EVar, api.ECon:
-		s.unify(s.use(g, e, e.Name), t)
+		s.unify(s.use(g, e.Name, &use{at: e}), t)
 	case api.EInt:
 		s.unify(integer(), t)
 	case api.EStr:
@@ -115,7 +115,7 @@ func (s *solver) statements(g *group, all []api.Node, t *term) {
 		return
 	}
 	action, result := s.fresh(g), s.fresh(g)
-	s.unify(s.use(g, first, bindName), function(t, action, function(rest, result)))
+	s.unify(s.use(g, bindName, &use{at: first, binds: true}), function(t, action, function(rest, result)))
 	if first.Kind != api.SGen {
 		s.expression(g, first, action)
 		return
@@ -126,7 +126,7 @@ func (s *solver) statements(g *group, all []api.Node, t *term) {
 
 // construct is the types of the fields of a constructor that makes a type.
 func (s *solver) construct(g *group, con string, t *term) []*term {
-	fields, result := split(s.use(g, nil, con), s.program.known[con].fields)
+	fields, result := split(s.use(g, con, &use{}), s.program.known[con].fields)
 	s.unify(result, t)
 	return fields
 }

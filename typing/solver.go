@@ -24,6 +24,7 @@ type group struct {
 // use is a use of a name.
 type use struct {
 	at     *api.Node
+	binds  bool   // whether at is a statement, which uses the Prelude's >>=
 	of     *group // that of a name that is bound in the solver's group
 	inside bool   // whether it stands in that one
 	copier *copier
@@ -138,8 +139,7 @@ func (s *solver) bind(name string, t *term) {
 
 // use is the type of a name where it is used in a group, which then requires
 // the preds of its scheme.
-func (s *solver) use(g *group, at *api.Node, name string) *term {
-	u := &use{at: at}
+func (s *solver) use(g *group, name string, u *use) *term {
 	t := s.instance(g, u, name)
 	if s.program.Uses != nil && (u.of != nil || len(u.preds) > 0) {
 		s.uses = append(s.uses, u)

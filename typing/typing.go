@@ -13,10 +13,12 @@ import (
 type Program struct {
 	Trees []api.Node // the result of fix.Mend
 
-	// What Explain tells beside: the dictionaries that a name takes where it is
-	// used, at its EVar or at a statement of an EDo; and those that the name of a
-	// DFun, or the dictionary of a DInst, takes. Nothing stands for none.
+	// What Explain tells beside: the dictionaries that a name takes at its EVar, and
+	// those that the Prelude's >>= takes at a statement of an EDo, which may be an
+	// EVar itself; and those that the name of a DFun, or the dictionary of a DInst,
+	// takes. Nothing stands for none.
 	Uses   map[*api.Node][]*Dict
+	Binds  map[*api.Node][]*Dict
 	Params map[*api.Node]*Params
 
 	insts  map[slot][]api.Need
@@ -47,7 +49,7 @@ func infer(explain bool, mods ...api.Node) (*Program, api.Diag) {
 	p := newProgram(insts)
 	p.Trees = trees
 	if explain {
-		p.Uses, p.Params = map[*api.Node][]*Dict{}, map[*api.Node]*Params{}
+		p.Uses, p.Binds, p.Params = map[*api.Node][]*Dict{}, map[*api.Node][]*Dict{}, map[*api.Node]*Params{}
 	}
 	for i := range trees {
 		tree := &trees[i]
