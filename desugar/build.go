@@ -38,14 +38,10 @@ func lam(body api.Expr, names ...string) api.Expr {
 	return api.Expr{Kind: api.Lam, Names: names, Subs: []api.Expr{body}}
 }
 
-// app is one application, also of one to further arguments; without any, the
-// function.
+// app is a function with arguments; without any, the function.
 func app(f api.Expr, args ...api.Expr) api.Expr {
 	if len(args) == 0 {
 		return f
-	}
-	if f.Kind == api.App {
-		return api.Expr{Kind: api.App, Subs: slices.Concat(f.Subs, args)}
 	}
 	return api.Expr{Kind: api.App, Subs: slices.Concat([]api.Expr{f}, args)}
 }

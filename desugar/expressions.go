@@ -9,14 +9,43 @@ import (
 // bindFunction is what an EDo uses.
 const bindFunction = "Prelude.>>="
 
-// expression is an expression as one of Core. It has one node at least, so that
-// this is not called within itself more often than a program may have nodes.
+// expression is an expression as one of Core. What is translated by its kind has
+// one node at least, so that this is not called within itself more often than a
+// program may have nodes.
 func (t *translator) expression(n *api.Node) api.Expr {
+	n, lets := t.inner(n)
 	if !t.spend(1) {
 		return raise()
 	}
-	return t.how[n.Kind](n)
+	e := t.how[n.Kind](n)
+	for _, binds := range slices.Backward(lets) {
+		e = let(e, binds...)
+	}
+	return e
 }
+
+// inner is an expression without the declarations around it, and what these bind,
+// which may be nothing. An EDo of one statement is that.
+func (t *translator) inner(n *api.Node) (*api.Node, [][]api.Bind) {
+	var lets [][]api.Bind
+	for {
+		switch {
+		case n.Kind == api.ELet:
+			lets = append(lets, t.binds(&n.Subs[0]))
+			n = &n.Subs[1]
+		case n.Kind == api.EDo && n.Subs[0].Kind == api.SLet:
+			lets = append(lets, t.binds(&n.Subs[0].Subs[0]))
+			n = statements(n.Subs[1:])
+		case n.Kind == api.EDo && len(n.Subs) == 1:
+			n = &n.Subs[0]
+		default:
+			return n, lets
+		}
+	}
+}
+
+// statements is an EDo.
+func statements(all []api.Node) *api.Node { return &api.Node{Kind: api.EDo, Subs: all} }
 
 func (t *translator) each(nodes []api.Node) []api.Expr {
 	var all []api.Expr
@@ -29,8 +58,9 @@ func (t *translator) each(nodes []api.Node) []api.Expr {
 	return all
 }
 
-func (t *translator) value(n *api.Node) api.Expr {
-	return app(variable(t.name(n.Name)), t.dicts(t.program.Uses[n])...)
+// value is a variable, which takes its dictionaries ahead of other arguments.
+func (t *translator) value(n *api.Node, args ...api.Expr) api.Expr {
+	return app(variable(t.name(n.Name)), append(t.dicts(t.program.Uses[n]), args...)...)
 }
 
 // construct is a constructor with fields, or with the first ones.
@@ -48,8 +78,11 @@ func (t *translator) construct(name string, fields ...api.Expr) api.Expr {
 
 // call is a function with arguments.
 func (t *translator) call(f *api.Node, args ...api.Expr) api.Expr {
-	if f.Kind == api.ECon {
+	switch f.Kind {
+	case api.ECon:
 		return t.construct(f.Name, args...)
+	case api.EVar:
+		return t.value(f, args...)
 	}
 	return app(t.expression(f), args...)
 }
@@ -116,33 +149,13 @@ func (t *translator) cases(n *api.Node) api.Expr {
 			break
 		}
 	}
-	if of.Kind == api.Var {
-		return t.match([]string{of.Name}, rows...)
-	}
 	x := t.fresh()
 	return let(t.match([]string{x}, rows...), api.Bind{Name: x, Expr: of})
 }
 
-// statements is those of an EDo from one on. The declarations of an SLet need no
-// node of the program, so that SLets may be too many for calls within calls.
-func (t *translator) statements(all []api.Node) api.Expr {
-	var lets [][]api.Bind
-	for ; all[0].Kind == api.SLet; all = all[1:] {
-		lets = append(lets, t.binds(&all[0].Subs[0]))
-	}
-	e := t.action(all)
-	for _, binds := range slices.Backward(lets) {
-		e = let(e, binds...)
-	}
-	return e
-}
-
-// action is an SGen or an expression, and the statements behind it.
-func (t *translator) action(all []api.Node) api.Expr {
-	first := &all[0]
-	if len(all) == 1 {
-		return t.expression(first)
-	}
+// action is an EDo that begins with an SGen or an expression, and goes on.
+func (t *translator) action(n *api.Node) api.Expr {
+	first := &n.Subs[0]
 	pats, action := []api.Node{{Kind: api.PWild}}, first
 	if first.Kind == api.SGen {
 		pats, action = first.Subs[:1], &first.Subs[1]
@@ -151,7 +164,7 @@ func (t *translator) action(all []api.Node) api.Expr {
 	if t.isFull() {
 		return raise()
 	}
-	others := t.closed(t.row(pats, func(string) api.Expr { return t.statements(all[1:]) }))
+	others := t.closed(t.row(pats, func(string) api.Expr { return t.expression(statements(n.Subs[1:])) }))
 	return app(variable(t.name(bindFunction)), append(args, others)...)
 }
 

@@ -33,14 +33,16 @@ func (l *lazy) force() thing {
 	return l.is
 }
 
-// thing is a number, a constructor with its fields, a function, or what the
-// variables of a DPat have matched.
+// thing is a number, a constructor with its fields, a function, what the variables
+// of a DPat have matched, or a function of things of any type, which has to know
+// that.
 type thing struct {
 	n      int
 	con    string
 	fields []*lazy
 	call   func(*lazy) thing
 	bound  scope
+	all    func(kind, *lazy) thing
 }
 
 func fails() thing { panic(end{api.Failed}) }

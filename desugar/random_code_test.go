@@ -310,6 +310,11 @@ func (m *maker) truth(depth int) code {
 
 func (m *maker) list(t kind, depth int) code {
 	switch {
+	case depth > 0 && t.parts[0].name == "Int" && len(m.known(polys)) > 0 && m.Intn(2) == 0:
+		names := m.known(polys)
+		name, k := names[m.Intn(len(names))], m.plain(2)
+		x := m.expression(k, depth-1)
+		return code{name + " (" + pinned(k, x.text) + ")", func(s scope) thing { return s[name].force().all(k, x.at(s)) }}
 	case depth > 0 && t.parts[0].name == "Int" && m.Intn(4) == 0:
 		k := m.plain(2)
 		x, y := m.expression(k, depth-1), m.expression(ints, depth-1)
@@ -378,3 +383,73 @@ func witness(t kind) string {
 	}
 	return "Just (" + witness(t.parts[0]) + ")"
 }
+
+// polys is the types of all functions that take what can be compared and shown,
+// and answer a text.
+var polys = kind{name: "poly"}
+
+func pairOf(t, u kind) kind { return kind{"(,)", []kind{t, u}} }
+
+func show(t kind, x *lazy) thing { return shown(t, x, func() thing { return of("[]") }) }
+
+// poly is a declaration of such a function, which takes dictionaries: its own ones
+// and those of others go on to what it uses.
+func (m *maker) poly(depth int) (string, map[string]kind, func(s, bound scope)) {
+	name, other, third := m.fresh(), m.fresh(), m.fresh()
+	e, n := m.expression(listsOf(ints), max(depth-1, 0)), m.expression(ints, max(depth-1, 0))
+	in := func(s scope) func() thing { return func() thing { return e.is(s) } }
+	var text string
+	var means func(s scope, t kind, x *lazy) thing
+	switch m.Intn(6) {
+	case 0:
+		text, means = "F x = show x", func(s scope, t kind, x *lazy) thing { return show(t, x) }
+	case 1:
+		text = "F x = show (x, N)"
+		means = func(s scope, t kind, x *lazy) thing { return show(pairOf(t, ints), ready(of("(,)", x, n.at(s)))) }
+	case 2:
+		text = "F = \\x -> if same x x then show [x] else E"
+		means = func(s scope, t kind, x *lazy) thing {
+			if equal(t, x, x) {
+				return show(listsOf(t), ready(listing2(x)))
+			}
+			return e.is(s)
+		}
+	case 3:
+		text = "F x = G x ++ (G [x] ++ E) where { G y = show y ++ show x }"
+		means = func(s scope, t kind, x *lazy) thing {
+			g := func(u kind, y *lazy) thing { return shown(u, y, func() thing { return show(t, x) }) }
+			return appended(later(func() thing { return g(t, x) }), func() thing {
+				return appended(later(func() thing { return g(listsOf(t), ready(listing2(x))) }), in(s))
+			})
+		}
+	case 4:
+		text = "F x = G 2 x; H n x = if x == x then G n x else E; G n x | n <= 0 = show x | True = H (n - 1) x"
+		means = func(s scope, t kind, x *lazy) thing {
+			if equal(t, x, x) && equal(t, x, x) {
+				return show(t, x)
+			}
+			return e.is(s)
+		}
+	case 5:
+		text = "F x = let { (G, y) = (show x, N); H z = if z == y then G else show (z, x) } in H y ++ H (y + 1)"
+		means = func(s scope, t kind, x *lazy) thing {
+			y := n.at(s)
+			z := later(func() thing { return thing{n: y.force().n + 1} })
+			h := func(z *lazy) *lazy {
+				return later(func() thing {
+					if equal(ints, z, y) {
+						return show(t, x)
+					}
+					return show(pairOf(ints, t), ready(of("(,)", z, x)))
+				})
+			}
+			return appended(h(y), func() thing { return h(z).force() })
+		}
+	}
+	text = strings.NewReplacer("F", name, "G", other, "H", third, "E", "("+e.text+")", "N", n.text).Replace(text)
+	return text, map[string]kind{name: polys}, func(s, bound scope) {
+		bound[name] = ready(thing{all: func(t kind, x *lazy) thing { return means(s, t, x) }})
+	}
+}
+
+func listing2(x *lazy) thing { return of(":", x, ready(of("[]"))) }

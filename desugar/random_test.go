@@ -160,7 +160,9 @@ func (m *maker) decls(depth int) decls {
 
 // decl is a variable, a function or a DPat.
 func (m *maker) decl(depth int) (string, map[string]kind, func(s, bound scope)) {
-	switch m.Intn(3) {
+	switch m.Intn(4) {
+	case 3:
+		return m.poly(depth)
 	case 0:
 		name, t := m.fresh(), m.any()
 		text, body := m.guards(t, depth)

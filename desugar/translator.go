@@ -48,16 +48,15 @@ func newTranslator(p *typing.Program, mainTakes bool) *translator {
 	}
 	t.scopes[nil] = newScope()
 	t.how = map[int]func(n *api.Node) api.Expr{
-		api.EVar:   t.value,
+		api.EVar:   func(n *api.Node) api.Expr { return t.value(n) },
 		api.ECon:   func(n *api.Node) api.Expr { return t.construct(n.Name) },
 		api.EInt:   func(n *api.Node) api.Expr { return number(n.N) },
 		api.EStr:   func(n *api.Node) api.Expr { return t.text(n.Name) },
 		api.EApp:   t.application,
 		api.ELam:   t.lambda,
-		api.ELet:   func(n *api.Node) api.Expr { return let(t.expression(&n.Subs[1]), t.binds(&n.Subs[0])...) },
 		api.EIf:    t.choice,
 		api.ECase:  t.cases,
-		api.EDo:    func(n *api.Node) api.Expr { return t.statements(n.Subs) },
+		api.EDo:    t.action,
 		api.ETup:   t.tuple,
 		api.EList:  func(n *api.Node) api.Expr { return list(t.each(n.Subs)) },
 		api.ELeft:  func(n *api.Node) api.Expr { return t.call(&n.Subs[1], t.expression(&n.Subs[0])) },
