@@ -65,7 +65,7 @@ func (t *translator) parts(d *api.Node) []api.Bind {
 		return nil
 	}
 	var inner []string
-	pattern := t.pattern(&d.Subs[0], func(string) string {
+	pattern := t.pattern(&d.Subs[0], 1, func(string) string {
 		inner = append(inner, t.fresh())
 		return inner[len(inner)-1]
 	})

@@ -9,14 +9,13 @@ import (
 // bindFunction is what an EDo uses.
 const bindFunction = "Prelude.>>="
 
-// expression is an expression as one of Core. What is translated by its kind has
-// one node at least, so that this is not called within itself more often than a
-// program may have nodes.
+// expression is an expression as one of Core. It has one node at least, so that
+// this is not called within itself more often than a program may have nodes.
 func (t *translator) expression(n *api.Node) api.Expr {
-	n, lets := t.inner(n)
 	if !t.spend(1) {
 		return raise()
 	}
+	n, lets := t.inner(n)
 	e := t.how[n.Kind](n)
 	for _, binds := range slices.Backward(lets) {
 		e = let(e, binds...)
@@ -25,7 +24,7 @@ func (t *translator) expression(n *api.Node) api.Expr {
 }
 
 // inner is an expression without the declarations around it, and what these bind,
-// which may be nothing. An EDo of one statement is that.
+// which may be nothing, so that they need no node. An EDo of one statement is that.
 func (t *translator) inner(n *api.Node) (*api.Node, [][]api.Bind) {
 	var lets [][]api.Bind
 	for {

@@ -1,6 +1,7 @@
 package desugar_test
 
 import (
+	"strconv"
 	"strings"
 	"testing"
 	"time"
@@ -265,6 +266,32 @@ func TestManyDictionaries(t *testing.T) {
 	// main's preds, of a type that is doubled again and again
 	const d = "class L m where { l :: m a -> m [a] }\nclass S a where { s :: a -> IO Int }\ninstance S a => S (Maybe a) where { s x = return 1 }\ninstance S Int\ninstance S a => S [a]\ninstance L Maybe where { l x = Nothing }\n"
 	wantErrno(t, "deep dictionaries", api.OK, tree(t, whole(d+"main = s (l0 (Just 1))\nl0 x = l x\n"+numbered2(6, "l% x = l& (l& x)\n"))))
+}
+
+// Beyond the document's bounds calls end too.
+func TestDeeperThanBounds(t *testing.T) {
+	x, error1 := node(api.EVar, "x"), dfun("x", node(api.EVar, "error"))
+	for what, e := range map[string]api.Node{
+		"binds": grown(1<<18, x, func(n api.Node) api.Node { return node(api.ELet, "", node(api.List, "", dfun("y", n)), x) }),
+		"lets":  grown(1<<18, x, func(n api.Node) api.Node { return node(api.ELet, "", node(api.List, ""), n) }),
+		"cases": grown(1<<18, x, func(n api.Node) api.Node {
+			return node(api.ECase, "", x, node(api.EAlt, "", node(api.PWild, ""), rhs(n)))
+		}),
+	} {
+		hold20(t, what, func() { desugar.Core(mainWith(error1, dfun("f", e)), tree(t, api.Prelude)) })
+	}
+	for what, p := range map[string]api.Node{
+		"PAs":  grown(1<<18, node(api.PStr, "a"), func(n api.Node) api.Node { return node(api.PAs, "y", n) }),
+		"PTup": grown(1<<18, node(api.PStr, "a"), func(n api.Node) api.Node { return node(api.PTup, "", n, node(api.PWild, "")) }),
+	} {
+		i := 0
+		for q := &p; q.Kind == api.PAs; q = &q.Subs[0] { // all have names of their own
+			q.Name = "y" + strconv.Itoa(i)
+			i++
+		}
+		f := node(api.DFun, "f", node(api.DClause, "", node(api.List, "", p), rhs(lit(1))))
+		hold20(t, what, func() { desugar.Core(mainWith(f), tree(t, api.Prelude)) })
+	}
 }
 
 // What is no tree, or has no end.

@@ -2,18 +2,33 @@ package desugar
 
 import "teasel/api"
 
-// pattern is a pattern whose variables are named otherwise. Where it is not a
-// variable or a wildcard, it has one node at least in the program, so that this
-// is not called within itself more often than a program may have nodes.
-func (t *translator) pattern(p *api.Node, name func(string) string) api.Node {
+// mostLevels is more than patterns may be nested.
+const mostLevels = 1 << 17
+
+// pattern is a pattern, on some level, whose variables are named otherwise.
+func (t *translator) pattern(p *api.Node, level int, name func(string) string) api.Node {
 	n := api.Node{Kind: p.Kind, Name: p.Name, N: p.N}
+	if p.Kind == api.PVar || p.Kind == api.PAs {
+		n.Name = name(p.Name)
+	}
+	t.count(p)
+	if level > mostLevels {
+		t.spend(api.MaxNodes + 1)
+	}
+	if t.isFull() && p.Kind != api.EField {
+		return api.Node{Kind: api.PWild}
+	}
+	for i := range p.Subs {
+		n.Subs = append(n.Subs, t.pattern(&p.Subs[i], level+1, name))
+	}
+	return n
+}
+
+// count counts the Cases that a pattern needs, apart from those of its children.
+// A variable needs none, as it only is another name of what it matches.
+func (t *translator) count(p *api.Node) {
 	switch p.Kind {
-	case api.PWild, api.EField:
-	case api.PVar:
-		n.Name = name(p.Name)
-	case api.PAs:
-		n.Name = name(p.Name)
-		t.spend(1)
+	case api.PVar, api.PWild, api.PAs, api.EField:
 	case api.PList:
 		t.spend(1 + len(p.Subs))
 	case api.PMake:
@@ -22,13 +37,6 @@ func (t *translator) pattern(p *api.Node, name func(string) string) api.Node {
 	default:
 		t.spend(1)
 	}
-	if t.isFull() && p.Kind != api.EField {
-		return api.Node{Kind: api.PWild}
-	}
-	for i := range p.Subs {
-		n.Subs = append(n.Subs, t.pattern(&p.Subs[i], name))
-	}
-	return n
 }
 
 // table is the constructors and fields of patterns, so that package match does

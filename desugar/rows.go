@@ -19,7 +19,7 @@ type row struct {
 func (t *translator) row(pats []api.Node, body func(next string) api.Expr) row {
 	r := row{body: body}
 	for i := range pats {
-		r.pats = append(r.pats, t.pattern(&pats[i], t.name))
+		r.pats = append(r.pats, t.pattern(&pats[i], 1, t.name))
 	}
 	return r
 }
