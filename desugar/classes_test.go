@@ -5,6 +5,7 @@ import (
 	"testing"
 
 	"teasel/api"
+	"teasel/desugar"
 )
 
 // Dictionaries of each sort of class and instance.
@@ -152,5 +153,36 @@ func TestModules(t *testing.T) {
 		wantRun(t, "", done(708), append(texts, "import A\nimport B\nmain = return (h [1, 2])")...)
 		wantRun(t, "", done(7), append(texts, "import B\nmain = return w")...)
 		wantRun(t, "", failed, append(texts, "import A (T)\nmain = return (x U)\nf = 1")...)
+	}
+}
+
+// An EDo uses whatever the Prelude has for it: a function that takes dictionaries,
+// also within itself, or a DField.
+func TestOwnPrelude(t *testing.T) {
+	const taking = `module Prelude where
+import Prim
+class S a where { s :: a -> Int }
+instance S Int where { s x = x }
+instance S a => S [a] where { s [] = 0; s (x:xs) = primAdd (s x) (s xs) }
+m >>= k = case m of { [] -> []; (x:xs) | primEq (s x) 2 -> do { y <- xs; k y }; (x:xs) -> app (k x) (xs >>= k) }
+app [] y = y
+app (x:xs) y = x : app xs y
+`
+	const field = "module Prelude where\ndata M = M { (>>=) :: (Int -> Int) -> Int }\n"
+	for _, c := range []struct {
+		prelude, text string
+		want          api.Outcome
+	}{
+		{taking, "import Prim\nmain = primReturn (s (do { x <- [1, 2, 3]; [x, x] }))", done(8)},
+		{taking, "import Prim\nmain = primReturn (s (do { [x] <- [[1], [1, 1, 1]]; [[x], [x, x]] }))", failed},
+		{field, "import Prim\nmain = primReturn (do { x <- M (\\k -> primAdd (k 1) (k 2)); primMul x 10 })", done(30)},
+		{field, "import Prim\nmain = primReturn (do { M (\\k -> k (k 7)); 2 })", done(2)},
+	} {
+		p, d := desugar.Core(tree(t, c.prelude), tree(t, whole(c.text)))
+		if d != (api.Diag{}) {
+			t.Errorf("%q: %+v", c.text, d)
+		} else if got := run(p, ""); got != c.want {
+			t.Errorf("%q: got %+v, want %+v", c.text, got, c.want)
+		}
 	}
 }

@@ -83,5 +83,9 @@ func (p *Program) Action(name string) ([]*Dict, bool) {
 		return nil, false
 	}
 	m := newMaker(s)
-	return m.dicts(u.preds...), !m.lacking
+	dicts := m.dicts(u.preds...)
+	if m.lacking {
+		return nil, false
+	}
+	return dicts, true
 }
