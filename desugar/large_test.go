@@ -199,8 +199,9 @@ func TestGreat(t *testing.T) {
 	}
 	wantErrno(t, "many clauses", api.ErrBig, mainWith(node(api.DFun, "f", clauses...)))
 	wantErrno(t, "clauses", api.ErrDeep, mainWith(node(api.DFun, "f", clauses[:2000]...)))
-	for i := range clauses {
-		clauses[i] = clause(node(api.PWild, ""))
+	clauses[0] = clause(node(api.PWild, ""))
+	for i := range clauses[1:] {
+		clauses[1+i] = clause(grown(8, node(api.PWild, ""), func(n api.Node) api.Node { return node(api.PTup, "", n, node(api.PWild, "")) }))
 	}
 	wantErrno(t, "clauses that are never looked at", api.OK, mainWith(node(api.DFun, "f", clauses...)))
 	statements := make([]api.Node, 20001)

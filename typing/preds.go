@@ -87,8 +87,11 @@ func (s *solver) reduced(g *group) []pred {
 			if s.failed {
 				return nil
 			}
-			u.preds = append(u.preds, s.copyOf(p, u.copier))
-			s.reduce(u.preds[len(u.preds)-1], add)
+			copied := s.copyOf(p, u.copier)
+			if s.program.Uses != nil {
+				u.preds = append(u.preds, copied)
+			}
+			s.reduce(copied, add)
 		}
 	}
 	return all
