@@ -36,6 +36,12 @@ x +++ y = show x ++ show y
 same x y = x == y
 most x y = if x <= y then y else x
 each f l = map f l
+class Z a where { z :: a }
+instance Z Int where { z = 1 }
+instance Z Bool where { z = False }
+instance Z a => Z [a] where { z = [z, z] }
+instance (Z a, Z b) => Z (a, b) where { z = (z, z) }
+instance Z a => Z (Maybe a) where { z = Just z }
 `
 
 // fieldKinds is the types of a constructor's fields.
@@ -171,6 +177,10 @@ func (m *maker) expression(t kind, depth int) code {
 		case 6:
 			if m.Intn(4) == 0 {
 				return code{"error", func(scope) thing { return fails() }}
+			}
+		case 7:
+			if t.name != "->" && t.name != "T" {
+				return code{"z", func(scope) thing { return zero(t) }}
 			}
 		}
 	}
@@ -453,3 +463,19 @@ func (m *maker) poly(depth int) (string, map[string]kind, func(s, bound scope)) 
 }
 
 func listing2(x *lazy) thing { return of(":", x, ready(of("[]"))) }
+
+// zero is what z is for a type.
+func zero(t kind) thing {
+	part := func(i int) *lazy { return later(func() thing { return zero(t.parts[i]) }) }
+	switch t.name {
+	case "Int":
+		return thing{n: 1}
+	case "Bool":
+		return of("False")
+	case "[]":
+		return of(":", part(0), ready(of(":", part(0), ready(of("[]")))))
+	case "(,)":
+		return of("(,)", part(0), part(1))
+	}
+	return of("Just", part(0))
+}

@@ -44,7 +44,7 @@ func (m *maker) rows(from []kind, to kind, depth int) rows {
 		}
 		all.pats = append(all.pats, pats)
 		m.inside(binds, func() {
-			text, body := m.guards(to, depth)
+			text, body := m.guards(to, depth, plainText)
 			all.rhs = append(all.rhs, text)
 			tries = append(tries, func(s scope, values []*lazy) (func() thing, bool) {
 				for i, p := range pats {
@@ -69,8 +69,10 @@ func (m *maker) rows(from []kind, to kind, depth int) rows {
 	return all
 }
 
-// guards is a DRhs.
-func (m *maker) guards(t kind, depth int) (string, func(scope) (func() thing, bool)) {
+func plainText(text string) string { return text }
+
+// guards is a DRhs, whose expressions are written in some way.
+func (m *maker) guards(t kind, depth int, as func(string) string) (string, func(scope) (func() thing, bool)) {
 	var where decls
 	text := ""
 	do := func() {}
@@ -79,12 +81,12 @@ func (m *maker) guards(t kind, depth int) (string, func(scope) (func() thing, bo
 		count := m.Intn(3)
 		if count == 0 {
 			values = append(values, m.expression(t, depth))
-			text = " BAD " + values[0].text
+			text = " BAD " + as(values[0].text)
 		}
 		for i := range count {
 			conditions = append(conditions, m.expression(bools, max(depth-1, 0)))
 			values = append(values, m.expression(t, depth))
-			text += " | " + conditions[i].text + " BAD " + values[i].text
+			text += " | " + conditions[i].text + " BAD " + as(values[i].text)
 		}
 	}
 	if depth > 0 && m.Intn(4) == 0 {
@@ -165,7 +167,7 @@ func (m *maker) decl(depth int) (string, map[string]kind, func(s, bound scope)) 
 		return m.poly(depth)
 	case 0:
 		name, t := m.fresh(), m.any()
-		text, body := m.guards(t, depth)
+		text, body := m.guards(t, depth, plainText)
 		return name + replaced(text, "="), map[string]kind{name: t}, func(s, bound scope) {
 			bound[name] = later(func() thing { return plainly(body(s)) })
 		}
@@ -185,7 +187,8 @@ func (m *maker) decl(depth int) (string, map[string]kind, func(s, bound scope)) 
 	for pat.text[0] != '(' {
 		pat = m.pattern(t, 2)
 	}
-	text, body := m.guards(t, depth)
+	// what a DPat binds takes no dictionaries, so its types must be told
+	text, body := m.guards(t, depth, func(text string) string { return pinned(t, text) })
 	return pat.text + replaced(text, "="), pat.binds, func(s, bound scope) {
 		matched := later(func() thing {
 			found, ok := pat.match(later(func() thing { return plainly(body(s)) }))
