@@ -507,7 +507,7 @@ func newMaker(seed int64) *maker {
 // have them. No run is Wrong.
 func TestRandom(t *testing.T) {
 	ends := map[int]int{}
-	for seed := range int64(1500) {
+	for seed := range int64(1000) {
 		m := newMaker(seed)
 		text, naive := m.whole()
 		p, d := desugar.Front(files(text))
@@ -528,7 +528,7 @@ func TestRandom(t *testing.T) {
 			}
 		}
 	}
-	if ends[api.Done] < 300 || ends[api.Failed] < 300 || len(ends) > 2 {
+	if ends[api.Done] < 200 || ends[api.Failed] < 200 || len(ends) > 2 {
 		t.Error(ends)
 	}
 }
