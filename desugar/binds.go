@@ -27,7 +27,8 @@ func (t *translator) bindsOf(d *api.Node) []api.Bind {
 	return t.parts(d)
 }
 
-// function is a DFun, which takes dictionaries ahead of its arguments.
+// function is a DFun, which takes what stands for its preds ahead of its
+// arguments.
 func (t *translator) function(d *api.Node) api.Expr {
 	params := t.program.Params[d]
 	if params == nil {

@@ -50,7 +50,7 @@ func TestDictionaries(t *testing.T) {
 		// a method's local functions with preds
 		{"c [3, 4]", done(2*5 + 112), "class C a where { c :: a -> Int }\ninstance Show a => C [a] where { c l = size1 l + k where { size1 x = length (f x) where { f y = show y ++ show x }; k = g l * 100 + g 1 * 1000 + 112; g z = length (show [z]) - 2 - length (show z) + one z; one z = 0 } }"},
 	} {
-		wantRun(t, "", c.want, "main = return ("+c.e+")\n"+c.declarations)
+		wantBoth(t, "", c.want, "main = return ("+c.e+")\n"+c.declarations)
 	}
 }
 
@@ -120,7 +120,7 @@ func TestPreds(t *testing.T) {
 		{"([[49],[50]],Just [51])", "(strings [1, 2], strings (Just 3))", "strings x = fmap show x"},
 	} {
 		want := api.Outcome{Out: c.out, End: api.Done}
-		wantRun(t, "", want, "main = putBytes (show ("+c.e+")) >> return 0\n"+c.declarations)
+		wantBoth(t, "", want, "main = putBytes (show ("+c.e+")) >> return 0\n"+c.declarations)
 	}
 }
 
@@ -150,9 +150,9 @@ func TestModules(t *testing.T) {
 	a := "module A (C, T, f, g) where\nclass C a where { c :: a -> Int }\ndata T = T { x :: Int } | U\ninstance C T where { c (T x) = x; c U = 0 }\nf x = c x + y where y = 1\ng = T 7\nmain = 5"
 	b := "module B where\nimport A\ninstance C Int where { c x = x * 2 }\ninstance C a => C [a] where { c [] = 0; c (x:xs) = c x + c xs }\nh l = f l * 100 + z where z = f g\nT { x = w } = g"
 	for _, texts := range [][]string{{a, b}, {b, a}} {
-		wantRun(t, "", done(708), append(texts, "import A\nimport B\nmain = return (h [1, 2])")...)
-		wantRun(t, "", done(7), append(texts, "import B\nmain = return w")...)
-		wantRun(t, "", failed, append(texts, "import A (T)\nmain = return (x U)\nf = 1")...)
+		wantBoth(t, "", done(708), append(texts, "import A\nimport B\nmain = return (h [1, 2])")...)
+		wantBoth(t, "", done(7), append(texts, "import B\nmain = return w")...)
+		wantBoth(t, "", failed, append(texts, "import A (T)\nmain = return (x U)\nf = 1")...)
 	}
 }
 
@@ -178,11 +178,13 @@ app (x:xs) y = x : app xs y
 		{field, "import Prim\nmain = primReturn (do { x <- M (\\k -> primAdd (k 1) (k 2)); primMul x 10 })", done(30)},
 		{field, "import Prim\nmain = primReturn (do { M (\\k -> k (k 7)); 2 })", done(2)},
 	} {
-		p, d := desugar.Core(tree(t, c.prelude), tree(t, whole(c.text)))
-		if d != (api.Diag{}) {
-			t.Errorf("%q: %+v", c.text, d)
-		} else if got := run(p, ""); got != c.want {
-			t.Errorf("%q: got %+v, want %+v", c.text, got, c.want)
+		for i, text := range []string{c.text, c.text + heavy} {
+			p, d := desugar.Core(tree(t, c.prelude), tree(t, whole(text)))
+			if d != (api.Diag{}) || takesTypes(p) != (i == 1) {
+				t.Errorf("%q: %+v (names take types: %v)", c.text, d, takesTypes(p))
+			} else if got := run(p, ""); got != c.want {
+				t.Errorf("%q: got %+v, want %+v (names take types: %v)", c.text, got, c.want, i == 1)
+			}
 		}
 	}
 }

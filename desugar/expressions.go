@@ -57,9 +57,10 @@ func (t *translator) each(nodes []api.Node) []api.Expr {
 	return all
 }
 
-// value is a variable, which takes its dictionaries ahead of other arguments.
+// value is a variable, which takes what stands for its preds ahead of other
+// arguments.
 func (t *translator) value(n *api.Node, args ...api.Expr) api.Expr {
-	return app(variable(t.name(n.Name)), append(t.dicts(t.program.Uses[n]), args...)...)
+	return app(variable(t.name(n.Name)), append(t.args(t.program.Uses[n]), args...)...)
 }
 
 // construct is a constructor with fields, or with the first ones.
@@ -159,7 +160,7 @@ func (t *translator) action(n *api.Node) api.Expr {
 	if first.Kind == api.SGen {
 		pats, action = first.Subs[:1], &first.Subs[1]
 	}
-	args := append(t.dicts(t.program.Binds[first]), t.expression(action))
+	args := append(t.args(t.program.Binds[first]), t.expression(action))
 	if t.isFull() {
 		return raise()
 	}

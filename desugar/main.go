@@ -7,9 +7,8 @@ import (
 	"teasel/typing"
 )
 
-// mainDicts is the dictionaries that main takes as an IO of an Int, or what is
-// wrong with it.
-func mainDicts(p *typing.Program) ([]*typing.Dict, api.Diag) {
+// mainArgs is what main takes as an IO of an Int, or what is wrong with it.
+func mainArgs(p *typing.Program) ([]*typing.Arg, api.Diag) {
 	i := slices.IndexFunc(p.Trees, func(tree api.Node) bool { return tree.Name == "Main" })
 	if i < 0 {
 		return nil, api.Diag{Number: api.ErrMain}
@@ -20,12 +19,12 @@ func mainDicts(p *typing.Program) ([]*typing.Dict, api.Diag) {
 	if d == nil {
 		return nil, wrong
 	}
-	dicts, ok := p.Action(api.Main)
+	args, ok := p.Action(api.Main)
 	if !ok {
 		wrong.Line, wrong.Col = d.Line, d.Col
 		return nil, wrong
 	}
-	return dicts, api.Diag{}
+	return args, api.Diag{}
 }
 
 // mainDeclaration is where a module declares main, or nil.

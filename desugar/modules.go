@@ -8,7 +8,7 @@ import (
 // translate binds all that modules declare, and what main takes. What they tell
 // of constructors and classes comes first, as declarations may stand in any
 // order; what all of it turns out to need comes last.
-func (t *translator) translate(mainDicts []*typing.Dict) {
+func (t *translator) translate(mainArgs []*typing.Arg) {
 	for _, c := range primCons() {
 		t.addCon(c)
 	}
@@ -17,11 +17,14 @@ func (t *translator) translate(mainDicts []*typing.Dict) {
 		t.declarations(&trees[i], t.types)
 	}
 	t.prims()
+	if t.byTypes {
+		t.typeValues()
+	}
 	for i := range trees {
 		t.declarations(&trees[i], t.values)
 	}
 	if t.mainTakes {
-		t.bind(api.Main, app(variable(mainFunction), t.dicts(mainDicts)...))
+		t.bind(api.Main, app(variable(mainFunction), t.args(mainArgs)...))
 	}
 	if t.compares {
 		t.bind(sameText, t.comparison())
@@ -57,6 +60,7 @@ func (t *translator) types(d *api.Node) {
 			methods = append(methods, m.Name)
 		}
 		t.methods[d.Name] = methods
+		t.numbers[d.Name] = len(t.numbers)
 		t.addCon(api.Cons{Name: dictionary(d.Name), Arity: len(methods), Family: 1})
 	}
 }
@@ -77,13 +81,13 @@ func (t *translator) values(d *api.Node) {
 			c := &d.Subs[1].Subs[i]
 			for j := range c.Subs[0].Subs {
 				if f := &c.Subs[0].Subs[j]; f.Kind == api.DField {
-					t.selector(f.Name, c.Name, j)
+					t.selector(f.Name, c.Name, j, variable)
 				}
 			}
 		}
 	case api.DClass:
 		for at, method := range t.methods[d.Name] {
-			t.selector(method, dictionary(d.Name), at)
+			t.selector(method, dictionary(d.Name), at, func(x string) api.Expr { return t.dictionaryOf(d.Name, x) })
 		}
 	case api.DInst:
 		t.bind(instance(d.Name, headOf(&d.Subs[1])), t.dictionary(d))
@@ -100,14 +104,15 @@ func headOf(tree *api.Node) string {
 	return tree.Name
 }
 
-// selector binds the function that selects a field of a constructor.
-func (t *translator) selector(name, con string, at int) {
+// selector binds the function that selects a field of a constructor, which is
+// found by what the function is given.
+func (t *translator) selector(name, con string, at int, find func(given string) api.Expr) {
 	c, x := t.cons[con], t.fresh()
 	names := t.fieldsOf(c)
 	if !t.spend(4) {
 		return
 	}
-	t.bind(t.name(name), lam(t.take(variable(x), c, variable(names[at]), names...), x))
+	t.bind(t.name(name), lam(t.take(find(x), c, variable(names[at]), names...), x))
 }
 
 // dictionary is that of a DInst.

@@ -526,6 +526,9 @@ func TestRandom(t *testing.T) {
 			if seed%3 == 0 {
 				wantRun(t, input, want, m.changed(text))
 			}
+			if seed%40 == 0 {
+				wantBoth(t, input, want, m.changed(text))
+			}
 		}
 	}
 	if ends[api.Done] < 200 || ends[api.Failed] < 200 || len(ends) > 2 {

@@ -5,25 +5,25 @@ import (
 	"teasel/typing"
 )
 
-// scope is where dictionaries are bound: the top, or what takes some ahead of its
-// arguments. There those are bound that are made of these, each once.
+// scope is where dictionaries, or types, are bound: the top, or what takes some
+// ahead of its arguments. There those are bound that are made of these, each once.
 type scope struct {
 	names []string // of those that are taken
 	binds []api.Bind
-	known map[*typing.Dict]called
+	known map[*typing.Arg]called
 	made  map[string]called // by the names that they are made of
 }
 
-// called is what a dictionary is called.
+// called is what a dictionary or type is called.
 type called struct {
 	name string
 }
 
 func newScope(names ...string) *scope {
-	return &scope{names: names, known: map[*typing.Dict]called{}, made: map[string]called{}}
+	return &scope{names: names, known: map[*typing.Arg]called{}, made: map[string]called{}}
 }
 
-// open begins what takes dictionaries.
+// open begins what takes dictionaries or types.
 func (t *translator) open(p *typing.Params) *scope {
 	s := newScope(t.several(p.Count)...)
 	t.scopes[p] = s
@@ -36,23 +36,23 @@ func instance(class, con string) string { return class + "#" + con }
 
 func dictionary(class string) string { return class + "#" }
 
-// dicts is dictionaries that a name takes where it is used.
-func (t *translator) dicts(dicts []*typing.Dict) []api.Expr {
-	if !t.spend(len(dicts)) {
+// args is what a name takes where it is used.
+func (t *translator) args(args []*typing.Arg) []api.Expr {
+	if !t.spend(len(args)) {
 		return nil
 	}
-	all := make([]api.Expr, len(dicts))
-	for i, d := range dicts {
-		all[i] = variable(t.dict(d))
+	all := make([]api.Expr, len(args))
+	for i, a := range args {
+		all[i] = variable(t.arg(a))
 	}
 	return all
 }
 
-// dict is what a dictionary is called. Those that it is made of are bound first;
-// what is left of them is kept on a stack, since they may be too many for calls
-// within calls.
-func (t *translator) dict(d *typing.Dict) string {
-	left := []*typing.Dict{d}
+// arg is what a dictionary or type is called. Those that it is made of are bound
+// first; what is left of them is kept on a stack, since they may be too many for
+// calls within calls.
+func (t *translator) arg(a *typing.Arg) string {
+	left := []*typing.Arg{a}
 	for len(left) > 0 && !t.isFull() {
 		last := left[len(left)-1]
 		count := len(left)
@@ -66,37 +66,51 @@ func (t *translator) dict(d *typing.Dict) string {
 			t.make(last)
 		}
 	}
-	return t.called(d)
+	return t.called(a)
 }
 
-// called is what a dictionary is called, if it is bound.
-func (t *translator) called(d *typing.Dict) string {
-	s := t.scopes[d.Params]
+// called is what a dictionary or type is called, if it is bound.
+func (t *translator) called(a *typing.Arg) string {
+	s := t.scopes[a.Params]
 	switch {
-	case d.Class == "":
-		return s.names[d.At]
-	case len(d.Parts) == 0:
-		return instance(d.Class, d.Con)
+	case a.Kind == typing.Taken:
+		return s.names[a.At]
+	case len(a.Parts) == 0:
+		return maker(a)
 	}
-	return s.known[d].name
+	return s.known[a].name
 }
 
-// make binds a dictionary that is made of others.
-func (t *translator) make(d *typing.Dict) {
-	s := t.scopes[d.Params]
-	if t.called(d) != "" {
+// maker is what makes a dictionary or type of its parts, or is it, if there are
+// none.
+func maker(a *typing.Arg) string {
+	switch a.Kind {
+	case typing.Constructor:
+		return typeValue(a.Con)
+	case typing.Applied:
+		return applyType
+	case typing.Unknown:
+		return unknownType
+	}
+	return instance(a.Class, a.Con)
+}
+
+// make binds a dictionary or type that is made of others.
+func (t *translator) make(a *typing.Arg) {
+	s := t.scopes[a.Params]
+	if t.called(a) != "" {
 		return
 	}
 	var parts []string
-	key := instance(d.Class, d.Con)
-	for _, part := range d.Parts {
+	key := maker(a)
+	for _, part := range a.Parts {
 		parts = append(parts, t.called(part))
 		key += " " + t.called(part)
 	}
 	if s.made[key].name == "" && t.spend(2+len(parts)) {
 		s.made[key] = called{name: t.fresh()}
-		e := app(variable(instance(d.Class, d.Con)), variables(parts...)...)
+		e := app(variable(maker(a)), variables(parts...)...)
 		s.binds = append(s.binds, api.Bind{Name: s.made[key].name, Expr: e})
 	}
-	s.known[d] = s.made[key]
+	s.known[a] = s.made[key]
 }

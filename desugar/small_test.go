@@ -6,6 +6,7 @@ import (
 	"testing"
 
 	"teasel/api"
+	"teasel/core"
 	"teasel/desugar"
 )
 
@@ -185,6 +186,46 @@ func TestSmallDictionaries(t *testing.T) {
 			t.Errorf("%.60s: %d nodes", c, count)
 		}
 		wantSmall(t, c[:40], n)
+	}
+}
+
+// Names of however many preds, however often and wherever they are used, make no
+// program that is too great.
+func TestSmallPreds(t *testing.T) {
+	const class = "class L m where { l :: m a -> m [a]; k :: m a -> m (Maybe a) }\n"
+	lists := "h0 x = (show x, x == x, x <= x)\n" + numbered2(4, "h% x = [h& (l x), h& (k x)]\n")
+	truths := func(last int) string {
+		return "h0 x = x == x && x <= x\n" + numbered2(last, "h% x = if h& (l x) then h& (k x) else False\n")
+	}
+	pairs := strings.ReplaceAll(numbered2(6, "g% (x, y) = [g& x, g& y]\n"), "g0", "h4")
+	triples := func(of string, last int) string {
+		return strings.ReplaceAll(numbered2(last, "g% = (g&, g&, g&)\n"), "g0", of)
+	}
+	listed := func(count int, name string) string { return "[" + many(count-1, name+", ") + name + "]" }
+	inner := strings.ReplaceAll(truths(5)+triples("h5", 3), "\n", "; ")
+	for what, c := range map[string]string{
+		"pairs":     lists + pairs + "x = " + listed(40, "g6"),
+		"triples":   truths(5) + triples("h5", 3) + "x = " + listed(60, "g3"),
+		"many":      truths(4) + triples("h4", 4) + "x = " + listed(95, "g4"),
+		"very many": truths(8) + triples("h8", 4) + "x = " + listed(16, "g4"),
+		// for several types of their own
+		"types":       truths(5) + triples("h5", 2) + "t f x = f (l x)\nx (f, g) = h5 (k g)\ny = h5 . l . k . l . l . k . k . l\nz = " + listed(30, "g2") + "\nv = t (t h5)",
+		"of one name": truths(6) + "x f = " + "[h6 (f 1), h6 (l (f 1)), h6 (k (f 1)), h6 (k (l (f 1))), h6 (l (l (f 1))), h6 (k (k (f 1)))]",
+		"great types": "class M m where { n :: m a -> m (Either a [Maybe (a, [a])]) }\n" + strings.ReplaceAll(truths(5), "k", "n") + triples("h5", 3) + "x = " + listed(58, "g3"),
+		// in declarations within others, and in a DInst
+		"local":   "x = " + listed(60, "g3") + " where { " + inner + "}",
+		"a DInst": "instance Show (a -> b) where { show f = [] where { " + inner + "; x = " + listed(60, "g3") + " } }",
+	} {
+		n := tree(t, whole("main = return 1\n"+class+c))
+		if count := stretch(&n); count > 300 {
+			t.Errorf("%s: %d nodes", what, count)
+		}
+		p, d := desugar.Core(n, tree(t, api.Prelude))
+		if d != (api.Diag{}) || core.Lint(p) != api.OK {
+			t.Errorf("%s: %+v", what, d)
+		} else if got := run(p, ""); got != done(1) {
+			t.Errorf("%s: %+v", what, got)
+		}
 	}
 }
 

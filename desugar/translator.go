@@ -7,8 +7,8 @@ import (
 	"teasel/typing"
 )
 
-// mainFunction is what main is called if it takes dictionaries, as the program
-// is run from what has its name. No value of a module is called so.
+// mainFunction is what main is called if it takes something for its preds, as the
+// program is run from what has its name. No value of a module is called so.
 const mainFunction = api.Main + "#"
 
 // place is a field's constructor, and which of its fields it is.
@@ -20,14 +20,16 @@ type place struct {
 // translator translates modules.
 type translator struct {
 	program   *typing.Program
-	mainTakes bool   // whether main takes dictionaries
+	byTypes   bool   // whether names take types, and no dictionaries
+	mainTakes bool   // whether main takes some
 	module    string // the name of the one that is being translated
 	out       api.Program
 	cons      map[string]api.Cons
 	places    map[string]place                   // of DFields
 	methods   map[string][]string                // of DClasses
+	numbers   map[string]int                     // of DClasses, if names take types
 	how       map[int]func(n *api.Node) api.Expr // how an expression is translated, by its kind
-	scopes    map[*typing.Params]*scope          // where dictionaries are, by those that are taken there
+	scopes    map[*typing.Params]*scope          // where Args are bound, by those that are taken there
 	others    map[string]called                  // what stands for the variables of patterns
 	compares  bool                               // whether texts are compared
 	next      int                                // the number of the next fresh name
@@ -35,18 +37,23 @@ type translator struct {
 	fields    int                                // how many names fields have in alternatives
 }
 
-func newTranslator(p *typing.Program, mainTakes bool) *translator {
+func newTranslator(p *typing.Program, takes int, mainTakes bool) *translator {
 	t := &translator{
 		program:   p,
+		byTypes:   takes == typing.Types,
 		mainTakes: mainTakes,
 		cons:      map[string]api.Cons{},
 		places:    map[string]place{},
 		methods:   map[string][]string{},
+		numbers:   map[string]int{},
 		others:    map[string]called{},
 		scopes:    map[*typing.Params]*scope{},
 		next:      1,
 	}
 	t.scopes[nil] = newScope()
+	if p.TooMany {
+		t.spend(api.MaxNodes + 1)
+	}
 	t.how = map[int]func(n *api.Node) api.Expr{
 		api.EVar:   func(n *api.Node) api.Expr { return t.value(n) },
 		api.ECon:   func(n *api.Node) api.Expr { return t.construct(n.Name) },

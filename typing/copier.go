@@ -18,12 +18,15 @@ type hole struct {
 	into **term
 }
 
-// copy makes one copy of what occurs several times, as terms may share their
-// parts. What is left of it is kept on a stack: the given types may be too deep
-// for calls within calls.
 func (c *copier) copy(t *term) *term {
+	return c.copyBeside(map[*term]*term{}, t)
+}
+
+// copyBeside copies a term beside others, whose copies are known. It makes one
+// copy of what occurs several times, as terms may share their parts. What is left
+// of it is kept on a stack: the given types may be too deep for calls within calls.
+func (c *copier) copyBeside(known map[*term]*term, t *term) *term {
 	var root *term
-	known := map[*term]*term{}
 	left := []hole{{of: t, into: &root}}
 	for len(left) > 0 {
 		last := left[len(left)-1]

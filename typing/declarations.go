@@ -100,7 +100,7 @@ func (s *solver) method(inst, d *api.Node, params *Params) api.Errno {
 	s.later(func() { s.closed = append(s.closed, g) })
 	s.clauses(g, d, t)
 	errno := s.solve()
-	if errno == api.OK && s.program.Uses != nil {
+	if errno == api.OK && s.program.takes != nothing {
 		s.explain(params)
 	}
 	return errno
@@ -119,6 +119,7 @@ func (s *solver) methodType(inst, d *api.Node) *term {
 	quantified := termOf(&inst.Subs[1], variables)
 	own := &copier{from: atTop, made: map[*term]*term{}, other: arbitrary}
 	of := own.copy(quantified)
+	s.arbitrary = of.arguments()
 	for _, p := range inst.Subs[0].Subs {
 		con := own.variable(variables[p.Subs[0].Name]).name
 		if _, found := s.given[slot{class: p.Name, con: con}]; !found {

@@ -2,35 +2,20 @@ package typing
 
 import "teasel/api"
 
-// Params is the dictionaries that each name of a group takes ahead of its
-// arguments, one for each pred of its scheme, or those that the dictionary of a
-// DInst takes, one for each of its Needs.
-type Params struct {
-	Count int
-	level int
-}
-
-// Dict is a dictionary: one of some Params, or, with a Class, that of an
-// instance, which is given others for its Needs.
-type Dict struct {
-	Params *Params // those that it is one of, or the innermost ones that it is made of; or nil
-	At     int     // which one it is
-	Class  string
-	Con    string
-	Parts  []*Dict
-}
-
-// maker makes the dictionaries for preds whose types are final, one for those
-// that are the same.
+// maker makes the dictionaries for preds, one for those that are the same.
 type maker struct {
 	*solver
 	types   *uniques
-	known   map[pred]*Dict
+	known   map[pred]*Arg
 	lacking bool // whether there is none for some pred
 }
 
-func newMaker(s *solver) *maker {
-	return &maker{solver: s, types: newUniques(), known: map[pred]*Dict{}}
+func newMaker(s *solver, inst *Params) *maker {
+	m := &maker{solver: s, types: newUniques(), known: map[pred]*Arg{}}
+	for at, place := range s.given {
+		m.add(at.class, newCon(at.con), &Arg{Kind: Taken, Params: inst, At: place})
+	}
+	return m
 }
 
 func (m *maker) key(class string, of *term) pred {
@@ -39,15 +24,23 @@ func (m *maker) key(class string, of *term) pred {
 
 // add knows a dictionary. Preds of one group may have come to be the same when
 // Int was put for a variable: then the first one does for all.
-func (m *maker) add(class string, of *term, d *Dict) {
+func (m *maker) add(class string, of *term, d *Arg) {
 	if key := m.key(class, of); m.known[key] == nil {
 		m.known[key] = d
 	}
 }
 
-func (m *maker) dicts(preds ...pred) []*Dict {
-	var all []*Dict
-	for _, p := range preds {
+func (m *maker) taken(g *group) []*Arg {
+	all := takenBy(g, len(g.kept))
+	for i, p := range g.kept {
+		m.add(p.class, p.of, all[i])
+	}
+	return all
+}
+
+func (m *maker) args(u *use) []*Arg {
+	var all []*Arg
+	for _, p := range u.preds {
 		all = append(all, m.dict(m.key(p.class, p.of)))
 	}
 	return all
@@ -56,7 +49,7 @@ func (m *maker) dicts(preds ...pred) []*Dict {
 // dict makes the dictionary for a pred, and first those that it is made of. What
 // is left of them is kept on a stack: types may be too deep for calls within
 // calls.
-func (m *maker) dict(p pred) *Dict {
+func (m *maker) dict(p pred) *Arg {
 	left := []pred{p}
 	for len(left) > 0 && !m.lacking {
 		last := left[len(left)-1]
@@ -80,57 +73,18 @@ func (m *maker) try(p pred) []pred {
 		m.lacking = true
 		return nil
 	}
-	d := &Dict{Class: p.class, Con: head.name}
+	d := &Arg{Kind: Dictionary, Class: p.class, Con: head.name}
 	var missing []pred
 	for _, n := range needs {
 		key := m.key(n.Class, arguments[n.Arg])
-		part := m.known[key]
-		if part == nil {
+		if part := m.known[key]; part != nil {
+			d.add(part)
+		} else {
 			missing = append(missing, key)
-			continue
-		}
-		d.Parts = append(d.Parts, part)
-		if d.Params == nil || part.Params != nil && part.Params.level > d.Params.level {
-			d.Params = part.Params
 		}
 	}
 	if len(missing) == 0 {
 		m.known[p] = d
 	}
 	return missing
-}
-
-// explain tells the dictionaries that are taken in a group at the top, or in a
-// DFun of a DInst, for which there is no error.
-func (s *solver) explain(inst *Params) {
-	m := newMaker(s)
-	for at, place := range s.given {
-		m.add(at.class, newCon(at.con), &Dict{Params: inst, At: place})
-	}
-	for _, g := range s.closed {
-		params := &Params{Count: len(g.kept), level: g.level}
-		for i, p := range g.kept {
-			d := &Dict{Params: params, At: i}
-			g.dicts = append(g.dicts, d)
-			m.add(p.class, p.of, d)
-		}
-		for _, d := range g.functions {
-			if params.Count > 0 {
-				s.program.Params[d] = params
-			}
-		}
-	}
-	for _, u := range s.uses {
-		dicts := m.dicts(u.preds...)
-		if u.inside {
-			dicts = u.of.dicts
-		}
-		switch {
-		case len(dicts) == 0:
-		case u.binds:
-			s.program.Binds[u.at] = dicts
-		default:
-			s.program.Uses[u.at] = dicts
-		}
-	}
 }

@@ -56,13 +56,21 @@ func (s *solver) reduce(p pred, tell func(pred)) {
 // more: then there is no answer within the bounds that the document has.
 const mostNodes = (1<<31 - 1) / 64
 
-// copyOf is a pred of a scheme where that is used.
-func (s *solver) copyOf(p pred, c *copier) pred {
-	before := c.nodes
-	of := c.copy(p.of)
-	s.nodes += 1 + c.nodes - before
-	s.failed = s.failed || s.nodes > mostNodes
-	return pred{class: p.class, of: of}
+// copiesOf is the preds of a scheme where that is used.
+func (s *solver) copiesOf(u *use) []pred {
+	preds, _ := u.known.kept()
+	var all []pred
+	known := map[*term]*term{}
+	for _, p := range preds {
+		before := u.copier.nodes
+		all = append(all, pred{class: p.class, of: u.copier.copyBeside(known, p.of)})
+		s.nodes += 1 + u.copier.nodes - before
+		if s.nodes > mostNodes {
+			s.failed = true
+			return nil
+		}
+	}
+	return all
 }
 
 // reduced is the preds to which those come that are required in a group, each
@@ -70,9 +78,9 @@ func (s *solver) copyOf(p pred, c *copier) pred {
 func (s *solver) reduced(g *group) []pred {
 	var all []pred
 	met := map[pred]struct{}{}
-	known := newUniques()
+	types := newUniques()
 	add := func(p pred) {
-		p.of = known.only(p.of)
+		p.of = types.only(p.of)
 		if _, found := met[p]; !found {
 			met[p] = struct{}{}
 			all = append(all, p)
@@ -81,20 +89,57 @@ func (s *solver) reduced(g *group) []pred {
 	for _, p := range g.required {
 		s.reduce(p, add)
 	}
+	c := &chains{types: types, numbers: map[link]int{}}
+	known := map[int][]pred{}
 	for _, u := range g.uses {
 		u.copier.other = func(*term) *term { return s.unknown }
-		for _, p := range u.of.kept {
-			if s.failed {
-				return nil
+		chain := c.of(u)
+		preds, found := known[chain]
+		if !found {
+			preds = s.copiesOf(u)
+			known[chain] = preds
+			for _, p := range preds {
+				s.reduce(p, add)
 			}
-			copied := s.copyOf(p, u.copier)
-			if s.program.Uses != nil {
-				u.preds = append(u.preds, copied)
-			}
-			s.reduce(copied, add)
+		}
+		if s.failed {
+			return nil
+		}
+		if s.program.takes == Dictionaries {
+			u.preds = preds
 		}
 	}
 	return all
+}
+
+// link is a scheme, or, behind others, what stands for one of its variables.
+type link struct {
+	scheme *scheme
+	before int
+	of     *term
+}
+
+// chains numbers what tells the preds of a use: there may be very many of them,
+// and many uses that have the same ones.
+type chains struct {
+	types   *uniques
+	numbers map[link]int
+}
+
+func (c *chains) of(u *use) int {
+	last := c.number(link{scheme: u.known})
+	_, variables := u.known.kept()
+	for _, v := range variables {
+		last = c.number(link{before: last, of: c.types.only(u.copier.variable(v))})
+	}
+	return last
+}
+
+func (c *chains) number(l link) int {
+	if c.numbers[l] == 0 {
+		c.numbers[l] = len(c.numbers) + 1
+	}
+	return c.numbers[l]
 }
 
 // own is the variables that are in the type of every name of a group, and not
@@ -148,6 +193,11 @@ func (s *solver) settle(g *group) {
 	}
 	s.ambiguous = s.ambiguous || len(ambiguous) > 0
 	g.kept = slices.DeleteFunc(g.kept, func(p pred) bool { return p.of.find().kind == api.TCon })
+	types := make([]*term, len(g.kept))
+	for i, p := range g.kept {
+		types[i] = p.of
+	}
+	g.variables = variablesOf(g.level, types...)
 }
 
 // hasInt says whether Int is of a class.

@@ -17,9 +17,10 @@ type field struct {
 
 // newProgram knows the module Prim.
 func newProgram(insts []api.Inst) *Program {
-	p := &Program{insts: map[slot][]api.Need{}, known: map[string]*scheme{}, fields: map[string]field{}}
+	p := &Program{insts: map[slot][]api.Need{}, heads: map[string]struct{}{}, known: map[string]*scheme{}, fields: map[string]field{}}
 	for _, i := range insts {
 		p.insts[slot{class: i.Class, con: i.Con, arguments: i.Args}] = i.Needs
+		p.heads[i.Con] = struct{}{}
 	}
 	a, b, c := newVariable(atTop), newVariable(atTop), newVariable(atTop)
 	p.addCon("Prim.()", newCon("Prim.()"))
@@ -92,7 +93,7 @@ func (p *Program) class(d *api.Node) {
 		variables := map[string]*term{}
 		of := termOf(&d.Subs[0], variables)
 		t := termOf(&method.Subs[0], variables)
-		p.known[method.Name] = &scheme{of: t, level: atTop, preds: []pred{{class: d.Name, of: of}}}
+		p.known[method.Name] = &scheme{of: t, level: atTop, preds: []pred{{class: d.Name, of: of}}, variables: []*term{of}}
 	}
 }
 
@@ -122,9 +123,12 @@ func (p *Program) module(tree *api.Node) (*api.Node, api.Errno) {
 // paramsOf is what the dictionary of a DInst takes, which is of no group.
 func (p *Program) paramsOf(inst *api.Node) *Params {
 	of := termOf(&inst.Subs[1], map[string]*term{})
-	needs := p.insts[slot{class: inst.Name, con: of.head().name, arguments: len(of.arguments())}]
-	params := &Params{Count: len(needs), level: atTop - 1}
-	if p.Params != nil && params.Count > 0 {
+	count := len(of.arguments())
+	params := &Params{Count: count, level: atTop - 1}
+	if p.takes == Dictionaries {
+		params.Count = len(p.insts[slot{class: inst.Name, con: of.head().name, arguments: count}])
+	}
+	if p.takes != nothing && params.Count > 0 {
 		p.Params[inst] = params
 	}
 	return params

@@ -15,11 +15,20 @@ type pred struct {
 // scheme is the type of a name, in which the variables that are of some level,
 // or of a further one, are quantified.
 type scheme struct {
-	of     *term
-	level  int
-	preds  []pred // of a name at the top
-	within *group // the group of a local name, whose preds come to be known later
-	fields int    // how many a constructor has
+	of        *term
+	level     int
+	preds     []pred  // of a name at the top
+	variables []*term // those of the preds
+	within    *group  // the group of a local name, whose preds come to be known later
+	fields    int     // how many a constructor has
+}
+
+// kept is the preds of a scheme, and the variables that are quantified in them.
+func (k *scheme) kept() ([]pred, []*term) {
+	if k.within != nil {
+		return k.within.kept, k.within.variables
+	}
+	return k.preds, k.variables
 }
 
 // The level of what is quantified in the scheme of a name at the top, and in

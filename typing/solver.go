@@ -12,23 +12,24 @@ type group struct {
 	around   *group // nil at the top
 	level    int    // more by one than that of the group around it
 	types    []*term
-	patterns bool // whether it contains a DPat
-	required []pred
-	uses     []*use // those of local names, which require the preds that their groups keep
+	patterns bool   // whether it contains a DPat
+	required []pred // those of groups in it that have been passed on
+	uses     []*use // those of names that have preds, or may come to have some
 	kept     []pred // those that its names have in their schemes
 
+	variables []*term     // those of the preds that it keeps, and has quantified
 	functions []*api.Node // its DFuns
-	dicts     []*Dict     // those that its names take
+	args      []*Arg      // what its names take
 }
 
 // use is a use of a name.
 type use struct {
 	at     *api.Node
-	binds  bool   // whether at is a statement, which uses the Prelude's >>=
-	of     *group // that of a name that is bound in the solver's group
-	inside bool   // whether it stands in that one
+	binds  bool // whether at is a statement, which uses the Prelude's >>=
+	known  *scheme
+	inside bool // whether it stands in the group of the name
 	copier *copier
-	preds  []pred // those of the name's scheme, as they are there
+	preds  []pred // those of the scheme, as they are there
 }
 
 // solver infers the types of a group at the top, and of all that is within it.
@@ -36,18 +37,19 @@ type use struct {
 // preds of each group when all types are known: in which order the parts of a
 // declaration are looked at must not matter.
 type solver struct {
-	program *Program
-	lists   map[*api.Node]*list
-	known   map[string]*scheme // the names that are bound in the group
-	left    []func()           // what is left to do, the next at the end
-	made    []*term            // the variables that were made
-	copies  map[*term][]*term  // of the variables in schemes of local names: what stands for them at each use
-	bound   []*term            // the types of the names that declarations bind
-	closed  []*group           // those whose types are inferred, each behind what it uses
-	given   map[slot]int       // the preds that a DInst gives, and the place of each among its Needs
-	uses    []*use             // those whose dictionaries will be told
-	unknown *term              // what stands for ambiguous variables that no type tells
-	nodes   int                // how many nodes copies of preds have
+	program   *Program
+	lists     map[*api.Node]*list
+	known     map[string]*scheme // the names that are bound in the group
+	left      []func()           // what is left to do, the next at the end
+	made      []*term            // the variables that were made
+	copies    map[*term][]*term  // of the variables in schemes of local names: what stands for them at each use
+	bound     []*term            // the types of the names that declarations bind
+	closed    []*group           // those whose types are inferred, each behind what it uses
+	given     map[slot]int       // the preds that a DInst gives, and the place of each among its Needs
+	arbitrary []*term            // what stands for the arguments of a DInst's type
+	uses      []*use             // those of which it will be told what they take
+	unknown   *term              // what stands for ambiguous variables that no type tells
+	nodes     int                // how many nodes copies of preds have
 
 	failed    bool // whether there is ErrType
 	lacking   bool // whether there is ErrInstance
@@ -73,9 +75,9 @@ func (s *solver) values(declarations ...*api.Node) api.Errno {
 	}
 	for _, name := range Bound(declarations...) {
 		k := s.known[name]
-		s.program.known[name] = &scheme{of: k.of, level: atTop, preds: k.within.kept}
+		s.program.known[name] = &scheme{of: k.of, level: atTop, preds: k.within.kept, variables: k.within.variables}
 	}
-	if s.program.Uses != nil {
+	if s.program.takes != nothing {
 		s.explain(nil)
 	}
 	return api.OK
@@ -141,7 +143,7 @@ func (s *solver) bind(name string, t *term) {
 // the preds of its scheme.
 func (s *solver) use(g *group, name string, u *use) *term {
 	t := s.instance(g, u, name)
-	if s.program.Uses != nil && (u.of != nil || len(u.preds) > 0) {
+	if s.program.takes != nothing && (u.known.within != nil || len(u.known.preds) > 0) {
 		s.uses = append(s.uses, u)
 	}
 	return t
@@ -162,12 +164,8 @@ func (s *solver) instance(g *group, u *use, name string) *term {
 		return n
 	}
 	t := u.copier.copy(k.of)
-	for _, p := range k.preds {
-		u.preds = append(u.preds, s.copyOf(p, u.copier))
-	}
-	g.required = append(g.required, u.preds...)
-	u.of, u.inside = k.within, k.level == single
-	if k.within != nil && len(u.copier.made) > 0 {
+	u.known, u.inside = k, k.level == single
+	if len(k.preds) > 0 || k.within != nil && len(u.copier.made) > 0 {
 		g.uses = append(g.uses, u)
 	}
 	return t

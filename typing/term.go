@@ -1,6 +1,10 @@
 package typing
 
-import "teasel/api"
+import (
+	"slices"
+
+	"teasel/api"
+)
 
 // term is a type, or what is known of one.
 type term struct {
@@ -132,13 +136,16 @@ func (t *term) isTooBig() bool {
 	return false
 }
 
-// variables is those of a term that are of some level or of a further one, each
-// once, in the order in which they occur. What occurs several times is looked
-// at once: terms may share their parts.
-func (t *term) variables(level int) []*term {
+// variables is those of a term that are of some level or of a further one.
+func (t *term) variables(level int) []*term { return variablesOf(level, t) }
+
+// variablesOf is those of several terms, each once, in the order in which they
+// occur. What occurs several times is looked at once: terms may share their parts.
+func variablesOf(level int, terms ...*term) []*term {
 	var all []*term
 	met := map[*term]struct{}{}
-	left := []*term{t}
+	left := slices.Clone(terms)
+	slices.Reverse(left)
 	for len(left) > 0 {
 		part := left[len(left)-1].find()
 		left = left[:len(left)-1]

@@ -1,6 +1,6 @@
 // Package typing infers the types of modules: see shared/doc/09-infer.md. Package
 // infer tells them; package desugar needs what they come to besides, the
-// dictionaries for the preds of each name where it is used.
+// dictionaries, or the types, for the preds of each name where it is used.
 package typing
 
 import (
@@ -13,31 +13,35 @@ import (
 type Program struct {
 	Trees []api.Node // the result of fix.Mend
 
-	// What Explain tells beside: the dictionaries that a name takes at its EVar, and
-	// those that the Prelude's >>= takes at a statement of an EDo, which may be an
-	// EVar itself; and those that the name of a DFun, or the dictionary of a DInst,
-	// takes. Nothing stands for none.
-	Uses   map[*api.Node][]*Dict
-	Binds  map[*api.Node][]*Dict
-	Params map[*api.Node]*Params
+	// What Explain tells beside: what a name takes at its EVar, and what the Prelude's
+	// >>= takes at a statement of an EDo, which may be an EVar itself; and what the
+	// name of a DFun, or the dictionary of a DInst, takes. Nothing stands for none.
+	// If there is too much of it, not all is told.
+	Uses    map[*api.Node][]*Arg
+	Binds   map[*api.Node][]*Arg
+	Params  map[*api.Node]*Params
+	TooMany bool
 
+	takes  int // what names take
+	given  int // how much of it
 	insts  map[slot][]api.Need
-	known  map[string]*scheme // values and constructors, by their qualified names
+	heads  map[string]struct{} // the constructors of types that have instances
+	known  map[string]*scheme  // values and constructors, by their qualified names
 	fields map[string]field
 }
 
 // Infer is modules with the types of their values, or what is wrong first in
 // them.
 func Infer(mods ...api.Node) (*Program, api.Diag) {
-	return infer(false, mods...)
+	return infer(nothing, mods...)
 }
 
-// Explain is what Infer is, with dictionaries.
-func Explain(mods ...api.Node) (*Program, api.Diag) {
-	return infer(true, mods...)
+// Explain is what Infer is, with what names take: Dictionaries, or Types.
+func Explain(takes int, mods ...api.Node) (*Program, api.Diag) {
+	return infer(takes, mods...)
 }
 
-func infer(explain bool, mods ...api.Node) (*Program, api.Diag) {
+func infer(takes int, mods ...api.Node) (*Program, api.Diag) {
 	insts, diag := classes.Insts(mods...)
 	if diag.Number != api.OK {
 		return nil, diag
@@ -47,9 +51,9 @@ func infer(explain bool, mods ...api.Node) (*Program, api.Diag) {
 		return nil, diag
 	}
 	p := newProgram(insts)
-	p.Trees = trees
-	if explain {
-		p.Uses, p.Binds, p.Params = map[*api.Node][]*Dict{}, map[*api.Node][]*Dict{}, map[*api.Node]*Params{}
+	p.Trees, p.takes = trees, takes
+	if takes != nothing {
+		p.Uses, p.Binds, p.Params = map[*api.Node][]*Arg{}, map[*api.Node][]*Arg{}, map[*api.Node]*Params{}
 	}
 	for i := range trees {
 		tree := &trees[i]
@@ -71,10 +75,9 @@ func (p *Program) Text(name string) string {
 	return p.known[name].text()
 }
 
-// Action is the dictionaries that a name at the top takes as an IO of an Int,
-// and whether its scheme can be instantiated to that, and all its preds hold
-// then.
-func (p *Program) Action(name string) ([]*Dict, bool) {
+// Action is what a name at the top takes as an IO of an Int, and whether its
+// scheme can be instantiated to that, and all its preds hold then.
+func (p *Program) Action(name string) ([]*Arg, bool) {
 	s := newSolver(p, nil)
 	g := &group{level: atTop}
 	u := &use{}
@@ -82,10 +85,14 @@ func (p *Program) Action(name string) ([]*Dict, bool) {
 	if s.failed {
 		return nil, false
 	}
-	m := newMaker(s)
-	dicts := m.dicts(u.preds...)
-	if m.lacking {
+	u.preds = s.copiesOf(u)
+	m := newMaker(s, nil)
+	dicts := m.args(u)
+	switch {
+	case m.lacking:
 		return nil, false
+	case p.takes == Types:
+		return newTypeMaker(s, nil).args(u), true
 	}
 	return dicts, true
 }
