@@ -253,6 +253,11 @@ func TestFresh(t *testing.T) {
 			t.Errorf("%s:\ngot  %s\nwant %s", c.names, got, want)
 		}
 	}
+	// names with ten digits count for none, also if a fresh one is the same
+	p := two(bind("f", lam("t#999999999 t#1000000001", lam("k", v("t#1000000001")))), "s")
+	if q, errno := stg.Of(p); errno != api.OK || !equalSPrograms(q, refOf(p)) {
+		t.Error(errno, saySBinds(q.Binds))
+	}
 	// a Bind at the top
 	wantBinds(t, "Main.main = fun [] s -> rec {t#7 = thunk [] (#9)} in (t#6 t#7); t#6 = fun [] x -> x", bind(api.Main, lam("s", app(v("t#6"), get()))), bind("t#6", lam("x", v("x"))))
 }
